@@ -1,0 +1,1 @@
+"""Renamedown: rows of exchanges that pass one another."""

@@ -1,0 +1,1 @@
+"""The words of rows, and deeds."""

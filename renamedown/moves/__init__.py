@@ -1,0 +1,1 @@
+"""Passings, and what they lead to."""

@@ -1,0 +1,148 @@
+"""Passings: two neighbours of a row pass one another, and one of them is renamed."""
+
+from renamedown.base.words import MAX_STEPS, check_number, exchange_behind, is_below, is_integer
+from renamedown.errors import InvalidMoves, InvalidNumber, InvalidOperation, TooMany
+from renamedown.rows.rows import Row, check_row
+
+MAX_MOVES = 200000
+
+_MAX_ROWS = 2000
+_ROUND = 6
+
+
+def passed(one, other, way):
+    """The two steps in which a step and the next one end by a passing."""
+    if way == "on":
+        return (other, exchange_behind(one, other) + (one[2],))
+    return (exchange_behind(other, one) + (other[2],), one)
+
+
+def row_passed(row, moves):
+    """The row behind moves that are known to be moves of the row."""
+    steps = list(row.steps)
+    for index, way in moves:
+        steps[index], steps[index + 1] = passed(steps[index], steps[index + 1], way)
+    return Row(row.places, tuple(steps))
+
+
+def _is_move(value, last):
+    """Whether the value is a move with an index of at most the last one."""
+    if not isinstance(value, tuple) or len(value) != 2:
+        return False
+    return is_below(last + 1, value[0]) and value[1] in ("on", "back")
+
+
+def are_moves(value, last):
+    """Whether the value is a tuple of moves, not too many, with indices of at most the last one."""
+    if not isinstance(value, tuple) or len(value) > MAX_MOVES:
+        return False
+    return all([_is_move(move, last) for move in value])
+
+
+def check_moves(moves):
+    """Raise InvalidMoves unless the value can be the moves of some row."""
+    if not are_moves(moves, MAX_STEPS - 2):
+        raise InvalidMoves("these are no moves of any row")
+
+
+def check_pair(row, index):
+    """Raise InvalidRow, or InvalidNumber unless a step and a next one stand at the index."""
+    check_row(row)
+    check_number(index, 0, len(row) - 2)
+
+
+def pass_on(row, index):
+    """The row behind a passing on."""
+    check_pair(row, index)
+    return row_passed(row, ((index, "on"),))
+
+
+def pass_back(row, index):
+    """The row behind a passing back."""
+    check_pair(row, index)
+    return row_passed(row, ((index, "back"),))
+
+
+def is_moves(row, value):
+    """Whether the value is a tuple of moves of the row, not too many."""
+    check_row(row)
+    return are_moves(value, len(row) - 2)
+
+
+def _check_moves_of(row, moves):
+    """Raise InvalidRow, or InvalidMoves unless these are moves of the row."""
+    if not is_moves(row, moves):
+        raise InvalidMoves("these are no moves of the row")
+
+
+def after_moves(row, moves):
+    """The row behind all moves, one after the other."""
+    _check_moves_of(row, moves)
+    return row_passed(row, moves)
+
+
+def rows_along(row, moves):
+    """The rows behind none, one, two and so on of the moves."""
+    _check_moves_of(row, moves)
+    if len(moves) > _MAX_ROWS:
+        raise TooMany(_MAX_ROWS)
+    rows = [row]
+    for move in moves:
+        rows.append(row_passed(rows[-1], (move,)))
+    return tuple(rows)
+
+
+def other_way(way):
+    """The way that takes a passing back."""
+    return "back" if way == "on" else "on"
+
+
+def undone(moves):
+    """The moves that lead back."""
+    check_moves(moves)
+    return tuple([(index, other_way(way)) for index, way in moves[::-1]])
+
+
+def only_on(moves):
+    """The moves with five passings on in the place of each one back."""
+    check_moves(moves)
+    times = [1 if way == "on" else _ROUND - 1 for _, way in moves]
+    if sum(times) > MAX_MOVES:
+        raise TooMany(MAX_MOVES)
+    return tuple([(move[0], "on") for move, many in zip(moves, times) for _ in range(many)])
+
+
+def leading_moves(source, target, renamed):
+    """The moves that lead a step from one index to another one."""
+    if source <= target:
+        way = "on" if renamed else "back"
+        return tuple([(index, way) for index in range(source, target)])
+    way = "back" if renamed else "on"
+    return tuple([(index, way) for index in range(source - 1, target - 1, -1)])
+
+
+def led(row, source, target, *, renamed=False):
+    """The row behind leading a step from one index to another one, and the moves."""
+    check_row(row)
+    check_number(source, 0, len(row) - 1)
+    check_number(target, 0, len(row) - 1)
+    if not isinstance(renamed, bool):
+        raise InvalidOperation("renamed must be True or False")
+    moves = leading_moves(source, target, renamed)
+    return (row_passed(row, moves), moves)
+
+
+def turned_over(row, index, *, many):
+    """The row behind so many passings on at an index, a negative number for passings back."""
+    check_pair(row, index)
+    if not is_integer(many):
+        raise InvalidNumber(many)
+    return row_passed(row, ((index, "on"),) * (many % _ROUND))
+
+
+def period_at(row, index):
+    """The least number of at least 1 of passings on at an index which change nothing."""
+    many = 1
+    while turned_over(row, index, many=many) != row:
+        many += 1
+    return many

@@ -1,0 +1,123 @@
+"""Arguments of all functions: which error comes first [0.4], and that nothing is changed [0.2]."""
+
+import copy
+import unittest
+from importlib import import_module
+
+from renamedown import errors
+from renamedown.rows.rows import Row
+from tests.common import LONG, LOOP, STRANGE, TRIO
+from tests.test_document import INTERFACE
+
+DEED, OTHER = (1, 0, 2), (0, 2, 1)
+PAIR = Row(3, ((0, 1, "a"), (0, 1, "b"), (1, 2, "c")))
+RIGHT = {
+    "is_integer": (3,), "is_count": (3,), "is_owner": ("a",), "is_number_of_places": (3,),
+    "is_exchange": (3, (0, 1)), "is_step": (3, (0, 1, "a")), "renamed_exchange": ((0, 1), (1, 2)),
+    "is_deed": (DEED,), "rest_deed": (3,), "exchange_deed": (3, (0, 1)), "rings_of": (DEED,), "ring_lengths": (DEED,),
+    "deed_of_rings": (3, ((0, 1),)), "behind": (DEED, OTHER), "back_of": (DEED,), "power_of": (DEED, 5),
+    "order_of": (DEED,), "least_steps": (DEED,), "is_even": (DEED,), "renamed_deed": (DEED, OTHER),
+    "any_names": (DEED, OTHER), "count_deeds": ((1, 2),), "deed_at": (3, 4), "index_of": (DEED,),
+    "write_deed": (DEED,), "read_deed": ("(0 1)(2)",), "groups_of": (TRIO,), "group_of": (TRIO, 2),
+    "is_joined": (TRIO,), "steps_in": (TRIO, (0, 1, 2)), "owner_counts": (TRIO, (0, 1, 2)),
+    "rings_in": (TRIO, (0, 1, 2)), "handles_of": (TRIO, (0, 1, 2)), "split": (TRIO,), "bridges": (TRIO,),
+    "equal_pairs": (TRIO,), "any_tree": (TRIO,), "is_tree": (TRIO, (0, 1)), "count_trees": (TRIO,),
+    "pass_on": (TRIO, 0), "pass_back": (TRIO, 0), "is_moves": (TRIO, ((0, "on"),)),
+    "after_moves": (TRIO, ((0, "on"),)), "rows_along": (TRIO, ((0, "on"),)), "undone": (((0, "on"),),),
+    "only_on": (((0, "on"),),), "led": (TRIO, 0, 1), "turned_over": (TRIO, 0), "period_at": (TRIO, 0),
+    "sign_of": (TRIO,), "is_sign": (((0, 1), ((0, 1),), ("aa",)),), "singles_of": (DEED,), "plain_row": (TRIO,),
+    "plain_of": (((0, 1), ((0, 1),), ("aa",)),), "is_plain": (TRIO,), "moves_to_plain": (TRIO,),
+    "is_double_at": (PAIR, 0), "double_led": (PAIR, 0, 1), "double_renamed": (PAIR, 0, 2),
+}
+KEYWORDS = {"led": {"renamed": True}, "turned_over": {"many": 7}}
+ROW_CALLS = {
+    "path": (2,), "thing_at": (0, 4), "with_step": (4, (1, 3, "z")), "without_step": (3,), "part": (0, 4),
+    "backwards": (), "renamed": ((3, 2, 1, 0),), "owned": ("zyxw",), "wider": (5,), "__add__": (LOOP,),
+    "__getitem__": (0,),
+}
+FORMS = (errors.InvalidRow, errors.InvalidDeed, errors.InvalidMoves, errors.InvalidOperation, errors.ParseError)
+# The errors that come behind all others.
+LATE = {"behind": FORMS[3:4], "renamed_deed": FORMS[3:4], "any_names": FORMS[3:4],
+        "double_led": FORMS[3:4], "double_renamed": FORMS[3:4]}
+FEW = (None, True, -1, 99, LONG, "a", (), (0, 1), [0], {0: 1}, TRIO, LOOP, errors.InvalidNumber(1))
+
+
+def outcome(call, *arguments, **more):
+    """What a call raises: the class and what the error keeps, or None if it raises nothing."""
+    try:
+        call(*arguments, **more)
+    except (errors.InvalidNumber, *FORMS) as error:
+        return type(error), getattr(error, "value", None)
+    return None
+
+
+def calls():
+    """All functions and constructors with right arguments."""
+    for module, told in INTERFACE.items():
+        for form in told:
+            name = form.partition("(")[0]
+            yield name, getattr(import_module(module), name), RIGHT[name], KEYWORDS.get(name, {})
+    yield "Row", Row, (3, ((0, 1, "a"),)), {}
+    yield "from_lines", Row.from_lines, (3, ("0 1 a",)), {}
+    for name, right in ROW_CALLS.items():
+        yield name, getattr(LOOP, name), right, {}
+
+
+def with_one(right, at, value):
+    """The arguments with another value at an index."""
+    return right[:at] + (value,) + right[at + 1:]
+
+
+class ArgumentsTest(unittest.TestCase):
+    def test_right_arguments_raise_nothing(self):
+        for name, call, right, more in calls():
+            self.assertIsNone(outcome(call, *right, **more), name)
+
+    def test_wrong_arguments_raise_the_errors_of_the_package(self):
+        for name, call, right, more in calls():
+            for at in range(len(right)):
+                for value in STRANGE:
+                    told = outcome(call, *with_one(right, at, value), **more)
+                    if told is not None and told[0] is errors.InvalidNumber:
+                        self.assertTrue(any(told[1] is one for one in (value, *right)), name)
+
+    def test_the_first_wrong_argument_is_told(self):
+        for name, call, right, more in calls():
+            for at in range(len(right)):
+                for value in FEW:
+                    first = outcome(call, *with_one(right, at, value), **more)
+                    another_row = isinstance(value, Row) and isinstance(right[at], Row)
+                    if first is not None and first[0] not in LATE.get(name, ()) and not another_row:
+                        self.check_later(name, call, with_one(right, at, value), at, first, more)
+
+    def check_later(self, name, call, arguments, at, first, more):
+        for later in range(at + 1, len(arguments)):
+            for value in FEW:
+                self.assertEqual(outcome(call, *with_one(arguments, later, value), **more), first, (name, arguments))
+        for keyword in more:
+            for value in FEW:
+                self.assertEqual(outcome(call, *arguments, **{keyword: value}), first, (name, arguments))
+
+    def test_arguments_are_not_changed(self):
+        values = [value for value in STRANGE if isinstance(value, (tuple, list, dict))]
+        for name, call, right, more in calls():
+            kept = copy.deepcopy(values)
+            before = [str(row) + str(row.steps) for row in (TRIO, LOOP, PAIR)]
+            for at in range(len(right)):
+                for value in values:
+                    outcome(call, *with_one(right, at, value), **more)
+            outcome(call, *right, **more)
+            self.assertEqual(kept, values, name)
+            self.assertEqual([str(row) + str(row.steps) for row in (TRIO, LOOP, PAIR)], before)
+
+    def test_equal_calls_return_equal_results(self):
+        for name, call, right, more in calls():
+            once, again = call(*right, **more), call(*right, **more)
+            self.assertEqual(once, again, name)
+            if isinstance(once, dict):
+                once.clear()
+                self.assertEqual(call(*right, **more), again)
+
+
+if __name__ == "__main__":
+    unittest.main()

@@ -1,0 +1,201 @@
+"""The examples of the document, literally, and the names of its interface."""
+
+import doctest
+import inspect
+import unittest
+from importlib import import_module
+
+from tests.common import LOOP, TRIO, TWINS
+
+STAGE_1 = r"""
+>>> [is_count(-1), is_owner("ab"), is_exchange(3, (0, 2)), is_exchange(3, (2, 0)), is_exchange(3, (0, 3)), is_step(3, (0, 2, "a")), is_step(3, (0, 2))]
+[False, False, True, False, False, True, False]
+>>> [renamed_exchange((0, 1), (1, 2)), renamed_exchange((0, 1), (2, 3)), renamed_exchange((0, 1), (0, 1)), renamed_exchange((1, 3), (0, 3))]
+[(0, 2), (0, 1), (0, 1), (0, 1)]
+"""
+
+STAGE_2 = r"""
+>>> [rings_of((2, 0, 1, 3)), ring_lengths((2, 0, 1, 3)), deed_of_rings(4, ((1, 0, 2),)), behind((1, 0, 2), (0, 2, 1)), back_of((2, 0, 1)), power_of((2, 0, 1), -4)]
+[((0, 2, 1), (3,)), (1, 3), (2, 0, 1, 3), (2, 0, 1), (1, 2, 0), (1, 2, 0)]
+>>> [order_of((1, 0, 3, 4, 2)), least_steps((1, 0, 3, 4, 2)), is_even((2, 0, 1)), is_even((1, 0)), renamed_deed((1, 0, 2), (2, 1, 0)), any_names((1, 0, 2), (1, 2, 0))]
+[6, 3, True, False, (0, 2, 1), None]
+>>> [count_deeds((1, 3)), deed_at(3, 3), index_of((2, 0, 1, 3)), write_deed((2, 0, 1, 3)), read_deed("(0 2 1)(3)"), exchange_deed(3, (0, 2)), rest_deed(2)]
+[8, (1, 2, 0), 12, '(0 2 1)(3)', (2, 0, 1, 3), (2, 1, 0), (0, 1)]
+"""
+
+STAGE_3 = r"""
+>>> [TRIO.deed, TRIO.path(0), TRIO.thing_at(0, 1), TRIO.lines, TRIO.owners, LOOP.deed, LOOP.owners, str(LOOP)]
+[(2, 0, 1), (0, 1, 2), 1, ('0 1 a', '1 2 b'), {'a': 1, 'b': 1}, (0, 3, 1, 2), {'a': 2, 'b': 2}, 'row of 4 places, 4 steps']
+>>> [TRIO.with_step(1, (0, 2, "c")).exchanges, LOOP.part(1, 3).steps, TRIO.backwards().deed, TRIO.renamed((2, 1, 0)).steps, TRIO.owned("xy")[1]]
+[((0, 1), (0, 2), (1, 2)), ((1, 2, 'b'), (2, 3, 'a')), (1, 2, 0), ((1, 2, 'a'), (0, 1, 'b')), (1, 2, 'y')]
+>>> [(TRIO + TRIO).deed, TRIO.wider(5).deed, (1, 2, "b") in TRIO, (1, 2) in TRIO, len(Row(4)), Row.from_lines(3, ("0 1 a", "1 2 b")) == TRIO]
+[(1, 2, 0), (2, 0, 1, 3, 4), True, False, 0, True]
+"""
+
+STAGE_4 = r"""
+>>> [groups_of(TWINS), group_of(TWINS, 4), is_joined(TWINS), is_joined(LOOP), steps_in(TWINS, (0, 1)), owner_counts(LOOP, (0, 1, 2, 3)), handles_of(TWINS, (0, 1))]
+[((0, 1), (2,), (3, 4)), (3, 4), False, True, (0, 2), {'a': 2, 'b': 2}, 0]
+>>> [rings_in(LOOP, (0, 1, 2, 3)), handles_of(LOOP, (0, 1, 2, 3)), [len(part) for part in split(TWINS)], bridges(TWINS), bridges(LOOP), bridges(TRIO)]
+[((0,), (1, 3, 2)), 0, [2, 0, 1], (1,), (), (0, 1)]
+>>> [equal_pairs(TWINS), equal_pairs(Row(2, ((0, 1, "a"),) * 3)), is_tree(LOOP, (0, 1, 3)), is_tree(LOOP, (0, 1)), count_trees(LOOP), count_trees(TWINS)]
+[(), (0, 1), True, False, 4, 2]
+"""
+
+STAGE_5 = r"""
+>>> [pass_on(TRIO, 0).steps, pass_back(TRIO, 0).steps, period_at(TRIO, 0), period_at(TWINS, 0), undone(((0, "on"), (3, "back")))]
+[((1, 2, 'b'), (0, 2, 'a')), ((0, 2, 'b'), (0, 1, 'a')), 6, 2, ((3, 'on'), (0, 'back'))]
+>>> [after_moves(TWINS, ((0, "on"), (1, "on"))).steps, turned_over(TRIO, 0, many=3).steps, len(only_on(((0, "back"), (1, "on"))))]
+[((3, 4, 'b'), (0, 1, 'c'), (0, 1, 'a')), ((0, 1, 'b'), (1, 2, 'a')), 6]
+>>> [led(LOOP, 3, 1)[0].steps, led(LOOP, 3, 1)[1], led(LOOP, 0, 2, renamed=True)[0].steps, is_moves(TRIO, ((1, "on"),))]
+[((0, 1, 'a'), (0, 3, 'b'), (1, 2, 'b'), (0, 2, 'a')), ((2, 'on'), (1, 'on')), ((1, 2, 'b'), (2, 3, 'a'), (0, 3, 'a'), (0, 3, 'b')), False]
+"""
+
+STAGE_6 = r"""
+>>> [sign_of(TWINS), singles_of((2, 0, 1)), singles_of((0, 3, 1, 2)), plain_row(TRIO).steps, is_plain(TRIO)]
+[((0, 1, 2, 4, 3), ((0, 1), (2,), (3, 4)), ('ac', '', 'b')), ((0, 1), (1, 2)), ((1, 2), (2, 3)), ((0, 1, 'a'), (1, 2, 'b')), True]
+>>> [plain_row(TWINS).steps, plain_row(LOOP).steps, is_sign(((1, 0), ((0, 1),), ("aa",))), after_moves(LOOP, moves_to_plain(LOOP)) == plain_row(LOOP)]
+[((0, 1, 'a'), (0, 1, 'c'), (3, 4, 'b')), ((0, 1, 'a'), (0, 1, 'a'), (1, 2, 'b'), (2, 3, 'b')), False, True]
+>>> pair = Row(4, ((0, 1, "a"), (0, 1, "b"), (1, 2, "c"), (2, 3, "d")))
+>>> [double_led(pair, 0, 2)[0].steps, double_renamed(pair, 0, 2)[0].steps[:2], double_renamed(pair, 0, 3)[0] == pair, is_double_at(pair, 1)]
+[((1, 2, 'c'), (2, 3, 'd'), (0, 1, 'a'), (0, 1, 'b')), ((0, 2, 'a'), (0, 2, 'b')), True, False]
+"""
+
+# For each stage its examples, how many lines of input they have, and the modules whose names they use.
+EXAMPLES = (
+    (STAGE_1, 2, ("renamedown.errors", "renamedown.base.words")),
+    (STAGE_2, 3, ("renamedown.base.deeds",)),
+    (STAGE_3, 3, ("renamedown.rows.rows",)),
+    (STAGE_4, 3, ("renamedown.rows.webs", "renamedown.rows.rows")),
+    (STAGE_5, 3, ("renamedown.moves.passings",)),
+    (STAGE_6, 4, ("renamedown.moves.plain", "renamedown.moves.passings", "renamedown.rows.rows")),
+)
+
+INTERFACE = {
+    "renamedown.base.words": (
+        "is_integer(value)",
+        "is_count(value)",
+        "is_owner(value)",
+        "is_number_of_places(value)",
+        "is_exchange(places, value)",
+        "is_step(places, value)",
+        "renamed_exchange(one, other)",
+    ),
+    "renamedown.base.deeds": (
+        "is_deed(value)",
+        "rest_deed(places)",
+        "exchange_deed(places, exchange)",
+        "rings_of(deed)",
+        "ring_lengths(deed)",
+        "deed_of_rings(places, rings)",
+        "behind(one, other)",
+        "back_of(deed)",
+        "power_of(deed, exponent)",
+        "order_of(deed)",
+        "least_steps(deed)",
+        "is_even(value)",
+        "renamed_deed(deed, names)",
+        "any_names(one, other)",
+        "count_deeds(lengths)",
+        "deed_at(places, index)",
+        "index_of(deed)",
+        "write_deed(deed)",
+        "read_deed(text)",
+    ),
+    "renamedown.rows.webs": (
+        "groups_of(row)",
+        "group_of(row, place)",
+        "is_joined(row)",
+        "steps_in(row, group)",
+        "owner_counts(row, group)",
+        "rings_in(row, group)",
+        "handles_of(row, group)",
+        "split(row)",
+        "bridges(row)",
+        "equal_pairs(row)",
+        "any_tree(row)",
+        "is_tree(row, value)",
+        "count_trees(row)",
+    ),
+    "renamedown.moves.passings": (
+        "pass_on(row, index)",
+        "pass_back(row, index)",
+        "is_moves(row, value)",
+        "after_moves(row, moves)",
+        "rows_along(row, moves)",
+        "undone(moves)",
+        "only_on(moves)",
+        "led(row, source, target, *, renamed=False)",
+        "turned_over(row, index, *, many)",
+        "period_at(row, index)",
+    ),
+    "renamedown.moves.plain": (
+        "sign_of(row)",
+        "is_sign(value)",
+        "singles_of(deed)",
+        "plain_row(row)",
+        "plain_of(sign)",
+        "is_plain(row)",
+        "moves_to_plain(row)",
+        "is_double_at(row, index)",
+        "double_led(row, source, target)",
+        "double_renamed(row, index, other)",
+    ),
+}
+
+CONSTANTS = {
+    "renamedown.base.words": {"MAX_PLACES": 12, "MAX_STEPS": 24, "MAX_FIGURES": 200},
+    "renamedown.rows.rows": {"MAX_PLACES": 12, "MAX_STEPS": 24},
+    "renamedown.moves.passings": {"MAX_MOVES": 200000},
+}
+
+ROW = {
+    "__init__": "(self, places, steps=())", "path": "(self, place)", "thing_at": "(self, place, index)",
+    "with_step": "(self, index, step)", "without_step": "(self, index)", "part": "(self, first, last)",
+    "backwards": "(self)", "renamed": "(self, names)", "owned": "(self, owners)", "wider": "(self, places)",
+    "__add__": "(self, other)", "__len__": "(self)", "__iter__": "(self)", "__eq__": "(self, other)",
+    "__str__": "(self)",
+}
+
+
+class ExamplesTest(unittest.TestCase):
+    def test_each_example_of_each_stage(self):
+        for text, many, modules in EXAMPLES:
+            names = {"TRIO": TRIO, "TWINS": TWINS, "LOOP": LOOP}
+            for module in modules:
+                names.update(vars(import_module(module)))
+            examples = doctest.DocTestParser().get_doctest(text, names, modules[0], None, 0)
+            told = []
+            failed, tried = doctest.DocTestRunner().run(examples, out=told.append)
+            self.assertEqual((failed, tried), (0, many), "".join(told))
+
+
+class InterfaceTest(unittest.TestCase):
+    def test_functions_are_defined_in_their_modules_with_their_parameters(self):
+        for module, told in INTERFACE.items():
+            for form in told:
+                name, _, parameters = form.partition("(")
+                function = getattr(import_module(module), name)
+                self.assertTrue(inspect.isfunction(function), form)
+                self.assertEqual(function.__module__, module)
+                self.assertEqual(str(inspect.signature(function)), "(" + parameters)
+
+    def test_constants(self):
+        for module, told in CONSTANTS.items():
+            for name, value in told.items():
+                self.assertEqual(getattr(import_module(module), name), value)
+
+    def test_methods_are_defined_in_the_class_itself(self):
+        row = import_module("renamedown.rows.rows").Row
+        self.assertEqual(row.__module__, "renamedown.rows.rows")
+        for name, parameters in ROW.items():
+            self.assertEqual(str(inspect.signature(vars(row)[name])), parameters)
+        for name in ("places", "steps", "lines", "exchanges", "owners", "deed"):
+            self.assertIsInstance(vars(row)[name], property)
+        self.assertIsInstance(vars(row)["from_lines"], classmethod)
+        self.assertEqual(str(inspect.signature(row.from_lines)), "(places, lines)")
+        for name in ("__getitem__", "__contains__"):
+            self.assertIn(name, vars(row))
+
+
+if __name__ == "__main__":
+    unittest.main()
