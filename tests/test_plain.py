@@ -188,8 +188,7 @@ class LeadingTest(Case):
         return moves
 
     def test_by_force(self):
-        rows = list(owned_by_force(3, 4)) + list(owned_by_force(4, 4)) + list(rows_by_force(3, 6))
-        rows += [row for number, row in enumerate(rows_by_force(4, 5)) if number % 11 == 0]
+        rows = list(owned_by_force(3, 5)) + list(owned_by_force(4, 5)) + list(rows_by_force(3, 6))
         for row in rows + list(SAMPLES):
             self.check_led_to_plain(row)
 

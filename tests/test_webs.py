@@ -126,7 +126,7 @@ class PartsTest(Case):
 
     def test_bridges(self):
         self.assertEqual(bridges(PARTED), (5, 6))
-        for row in rows_by_force(4, 4):
+        for row in rows_by_force(4, 5):
             many = len(joined(4, row.exchanges))
             found = [index for index in range(len(row))
                      if len(joined(4, row.exchanges[:index] + row.exchanges[index + 1:])) > many]
@@ -141,7 +141,7 @@ class PartsTest(Case):
 
 class TreesTest(Case):
     def check_trees(self, row):
-        trees = trees_by_force(row)
+        trees = set(trees_by_force(row))
         self.assertEqual(count_trees(row), len(trees), row.steps)
         self.assertIn(any_tree(row), trees)
         for many in range(len(row) + 1):
@@ -149,13 +149,8 @@ class TreesTest(Case):
                 self.assertIs(is_tree(row, chosen), chosen in trees)
 
     def test_by_force(self):
-        for places, most in ((1, 0), (2, 5), (3, 4), (4, 3)):
+        for places, most in ((1, 0), (2, 5), (3, 5), (4, 5)):
             for row in rows_by_force(places, most):
-                self.check_trees(row)
-
-    def test_by_force_with_five_steps(self):
-        for number, row in enumerate(rows_by_force(4, 5)):
-            if len(row) == 5 and number % 13 == 0:
                 self.check_trees(row)
         for row in (LOOP.wider(6), PARTED, TWINS + TWINS):
             self.check_trees(row)
