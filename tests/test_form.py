@@ -18,6 +18,8 @@ METHODS = set("""append clear copy count endswith extend find get index insert i
     reverse setdefault split startswith strip update values zfill add discard""".split())
 DOUBLE = set("""__init__ __eq__ __str__ __len__ __iter__ __add__ __contains__ __getitem__ __enter__ __exit__
     __call__""".split())
+# Of these the ones that change the list or dict.
+CHANGING = set("append clear extend insert pop remove reverse setdefault update".split())
 NOWHERE = (ast.AsyncFunctionDef, ast.AsyncFor, ast.AsyncWith, ast.Await, ast.Div, ast.MatMult)
 # Without `_`, which an interactive interpreter, and so a doctest, adds.
 PYTHON = set(dir(builtins)) - {"_"}
@@ -43,6 +45,39 @@ def bound(tree):
 def nodes(kind):
     """All nodes of a kind with their files."""
     return [(path.name, node) for path, tree in TREES.items() for node in ast.walk(tree) if isinstance(node, kind)]
+
+
+def alike_names(function):
+    """The sets of names of a function that are given to one another."""
+    groups = []
+    for node in ast.walk(function):
+        if isinstance(node, ast.Assign) and isinstance(node.value, ast.Name):
+            names = {node.value.id} | {target.id for target in node.targets if isinstance(target, ast.Name)}
+            for group in [group for group in groups if group & names]:
+                groups.remove(group)
+                names |= group
+            groups.append(names)
+    return groups
+
+
+def walked(loop):
+    """The names of what a loop walks without taking a copy."""
+    if isinstance(loop, ast.Call) and getattr(loop.func, "id", "") in ("enumerate", "zip", "reversed"):
+        return {name for inner in loop.args for name in walked(inner)}
+    if isinstance(loop, ast.Call) and getattr(loop.func, "attr", "") in ("items", "keys", "values"):
+        return walked(loop.func.value)
+    return {loop.id} if isinstance(loop, ast.Name) else set()
+
+
+def changed(rows):
+    """The names of what is changed in rows: by a method or an item."""
+    names = set()
+    for node in [node for row in rows for node in ast.walk(row)]:
+        if isinstance(node, ast.Call) and isinstance(node.func, ast.Attribute) and node.func.attr in CHANGING:
+            names |= walked(node.func.value)
+        if isinstance(node, ast.Subscript) and isinstance(node.ctx, (ast.Store, ast.Del)):
+            names |= walked(node.value)
+    return names
 
 
 class FilesTest(unittest.TestCase):
@@ -122,6 +157,14 @@ class StatementsTest(unittest.TestCase):
             for inner in node.args:
                 if isinstance(inner, ast.Call) and getattr(inner.func, "id", "") == "set":
                     self.assertIn(node.func.id, ("sorted", "len"), (name, node.lineno))
+
+    def test_what_a_loop_walks_is_not_changed_in_it(self):
+        for name, function in nodes(ast.FunctionDef):
+            groups = alike_names(function)
+            for loop in [node for node in ast.walk(function) if isinstance(node, ast.For)]:
+                names = walked(loop.iter)
+                names = names.union(*[group for group in groups if group & names])
+                self.assertEqual(names & changed(loop.body), set(), (name, loop.lineno))
 
     def test_identity_is_asked_of_none_and_booleans_only(self):
         for name, node in nodes(ast.Compare):

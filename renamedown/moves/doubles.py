@@ -54,7 +54,7 @@ def _names_between(exchange, target, names):
     level = [exchange]
     while level != [] and target not in found:
         following = []
-        for one in level:
+        for one in list(level):
             for name in names:
                 other = exchange_behind(one, name)
                 if other not in found:

@@ -7,7 +7,7 @@ def _spread(trail, indices, start):
     level = [start]
     while level != []:
         following = []
-        for one in level:
+        for one in list(level):
             for other in indices:
                 if other not in found and trail.meet_at(one, other):
                     found[other] = one
