@@ -1,6 +1,7 @@
 """Arguments of all functions: which error comes first [0.4], and that nothing is changed [0.2]."""
 
 import copy
+import inspect
 import unittest
 from importlib import import_module
 
@@ -10,6 +11,7 @@ from tests.common import LONG, LOOP, STRANGE, TRIO
 from tests.test_document import INTERFACE
 
 DEED, OTHER = (1, 0, 2), (0, 2, 1)
+SWAPPED = Row(3, ((0, 1, "b"), (1, 2, "a")))
 PAIR = Row(3, ((0, 1, "a"), (0, 1, "b"), (1, 2, "c")))
 RIGHT = {
     "is_integer": (3,), "is_count": (3,), "is_owner": ("a",), "is_number_of_places": (3,),
@@ -28,8 +30,17 @@ RIGHT = {
     "sign_of": (TRIO,), "is_sign": (((0, 1), ((0, 1),), ("aa",)),), "singles_of": (DEED,), "plain_row": (TRIO,),
     "plain_of": (((0, 1), ((0, 1),), ("aa",)),), "is_plain": (TRIO,), "moves_to_plain": (TRIO,),
     "is_double_at": (PAIR, 0), "double_led": (PAIR, 0, 1), "double_renamed": (PAIR, 0, 2),
+    "leads_to": (TRIO, SWAPPED), "way_to": (TRIO, SWAPPED), "any_reason": (TRIO, SWAPPED),
+    "is_reason": (TRIO, SWAPPED, ("deed", 1)), "way_paper": (TRIO, SWAPPED),
+    "is_way_paper": (TRIO, SWAPPED, ("moves", ())), "classes_of": ((TRIO, LOOP),),
+    "round_trip": (TRIO, (SWAPPED, TRIO)), "do_fit": (TRIO, "ba"), "least_owners": (TRIO,),
+    "exchange_owners": (TRIO, 0, 1), "moves_to_owners": (TRIO, "ba"), "count_owners": (TRIO,),
+    "each_owners": (TRIO,), "owners_at": (TRIO, 1), "index_of_owners": (TRIO, "ba"),
+    "is_lengths": ((1, 2),), "all_lengths": (4,), "cuts_of": ((1, 2),), "count_all": ((1, 2), 3),
+    "count_joined": ((1, 2), 3), "handles_in": ((1, 2), 3), "count_flat": ((1, 2),),
+    "count_parted": ((((1, 2), 3), ((2,), 1)),),
 }
-KEYWORDS = {"led": {"renamed": True}, "turned_over": {"many": 7}}
+KEYWORDS = {"led": {"renamed": True}, "turned_over": {"many": 7}, "way_to": {"only_on": True}}
 ROW_CALLS = {
     "path": (2,), "thing_at": (0, 4), "with_step": (4, (1, 3, "z")), "without_step": (3,), "part": (0, 4),
     "backwards": (), "renamed": ((3, 2, 1, 0),), "owned": ("zyxw",), "wider": (5,), "__add__": (LOOP,),
@@ -39,6 +50,7 @@ FORMS = (errors.InvalidRow, errors.InvalidDeed, errors.InvalidMoves, errors.Inva
 # The errors that come behind all others.
 LATE = {"behind": FORMS[3:4], "renamed_deed": FORMS[3:4], "any_names": FORMS[3:4],
         "double_led": FORMS[3:4], "double_renamed": FORMS[3:4]}
+THEN = (errors.NoWay, errors.TooMany)
 FEW = (None, True, -1, 99, LONG, "a", (), (0, 1), [0], {0: 1}, TRIO, LOOP, errors.InvalidNumber(1))
 
 
@@ -46,9 +58,14 @@ def outcome(call, *arguments, **more):
     """What a call raises: the class and what the error keeps, or None if it raises nothing."""
     try:
         call(*arguments, **more)
-    except (errors.InvalidNumber, *FORMS) as error:
+    except (errors.InvalidNumber, *FORMS, *THEN) as error:
         return type(error), getattr(error, "value", None)
     return None
+
+
+def all_of(generator):
+    """A function that tells all results of a generator, which raises its errors only when asked."""
+    return lambda *arguments: list(generator(*arguments))
 
 
 def calls():
@@ -56,7 +73,10 @@ def calls():
     for module, told in INTERFACE.items():
         for form in told:
             name = form.partition("(")[0]
-            yield name, getattr(import_module(module), name), RIGHT[name], KEYWORDS.get(name, {})
+            call = getattr(import_module(module), name)
+            if inspect.isgeneratorfunction(call):
+                call = all_of(call)
+            yield name, call, RIGHT.get((module, name), RIGHT.get(name)), KEYWORDS.get(name, {})
     yield "Row", Row, (3, ((0, 1, "a"),)), {}
     yield "from_lines", Row.from_lines, (3, ("0 1 a",)), {}
     for name, right in ROW_CALLS.items():
@@ -87,7 +107,7 @@ class ArgumentsTest(unittest.TestCase):
                 for value in FEW:
                     first = outcome(call, *with_one(right, at, value), **more)
                     another_row = isinstance(value, Row) and isinstance(right[at], Row)
-                    if first is not None and first[0] not in LATE.get(name, ()) and not another_row:
+                    if first is not None and first[0] not in LATE.get(name, ()) + THEN and not another_row:
                         self.check_later(name, call, with_one(right, at, value), at, first, more)
 
     def check_later(self, name, call, arguments, at, first, more):

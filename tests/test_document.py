@@ -2,6 +2,7 @@
 
 import doctest
 import inspect
+import re
 import unittest
 from importlib import import_module
 
@@ -60,6 +61,37 @@ STAGE_6 = r"""
 [((1, 2, 'c'), (2, 3, 'd'), (0, 1, 'a'), (0, 1, 'b')), ((0, 2, 'a'), (0, 2, 'b')), True, False]
 """
 
+STAGE_7 = r"""
+>>> swapped = Row(3, ((0, 1, "b"), (1, 2, "a")))
+>>> [leads_to(TRIO, swapped), after_moves(TRIO, way_to(TRIO, swapped)) == swapped, leads_to(TRIO, TRIO.backwards()), any_reason(TRIO, TRIO.backwards())[0]]
+[True, True, False, 'deed']
+>>> apart = Row(5, ((0, 1, "a"), (3, 4, "c"), (0, 1, "b")))
+>>> [is_reason(TWINS, apart, ("owner", 4, "b")), is_reason(TWINS, apart, ("owner", 2, "b")), is_reason(TWINS, apart, ("joined", 0, 1)), way_paper(TWINS, apart)[0]]
+[True, False, False, 'reason']
+>>> [is_way_paper(TRIO, swapped, ("moves", ((0, "on"),) * 3)), is_way_paper(TRIO, swapped, ("moves", ())), classes_of((TRIO, LOOP, swapped, TRIO.backwards()))]
+[True, False, ((0, 2), (1,), (3,))]
+>>> way_to(TWINS, apart)
+raises NoWay
+"""
+
+STAGE_8 = r"""
+>>> [do_fit(LOOP, "bbaa"), do_fit(TWINS, "abc"), do_fit(TWINS, "cab"), do_fit(TWINS, "cba"), least_owners(LOOP), count_owners(LOOP), count_owners(TWINS)]
+[True, True, False, True, 'aabb', 6, 2]
+>>> [after_moves(TRIO, exchange_owners(TRIO, 0, 1)).steps, after_moves(LOOP, moves_to_owners(LOOP, "bbaa")) == LOOP.owned("bbaa")]
+[((0, 1, 'b'), (1, 2, 'a')), True]
+>>> [list(each_owners(TWINS)), owners_at(LOOP, 5), index_of_owners(LOOP, "abab")]
+[['abc', 'cba'], 'bbaa', 1]
+"""
+
+STAGE_9 = r"""
+>>> [count_all((3,), 2), count_all((1, 2), 3), count_joined((1, 2), 3), count_joined((1, 1, 1), 2), count_joined((1,), 0), is_lengths((2, 1))]
+[3, 9, 8, 0, 1, False]
+>>> [count_flat((4,)), count_flat((2, 2)), cuts_of((1, 2)), handles_in((1, 2), 5), handles_in((1, 2), 4), all_lengths(4)]
+[16, 96, {(1, 1, 1): 1, (3,): 2}, 1, None, ((1, 1, 1, 1), (1, 1, 2), (1, 3), (2, 2), (4,))]
+>>> [count_parted((((1, 1), 2), ((2,), 1))), count_parted(()), count_joined((12,), 11) == 12 ** 10]
+[3, 1, True]
+"""
+
 # For each stage its examples, how many lines of input they have, and the modules whose names they use.
 EXAMPLES = (
     (STAGE_1, 2, ("renamedown.errors", "renamedown.base.words")),
@@ -68,6 +100,9 @@ EXAMPLES = (
     (STAGE_4, 3, ("renamedown.rows.webs", "renamedown.rows.rows")),
     (STAGE_5, 3, ("renamedown.moves.passings",)),
     (STAGE_6, 4, ("renamedown.moves.plain", "renamedown.moves.passings", "renamedown.rows.rows")),
+    (STAGE_7, 6, ("renamedown.rows.rows", "renamedown.moves.passings", "renamedown.decide.ways",)),
+    (STAGE_8, 3, ("renamedown.moves.passings", "renamedown.decide.owners",)),
+    (STAGE_9, 3, ("renamedown.count.numbers",)),
 )
 
 INTERFACE = {
@@ -140,12 +175,44 @@ INTERFACE = {
         "double_led(row, source, target)",
         "double_renamed(row, index, other)",
     ),
+    "renamedown.decide.ways": (
+        "leads_to(one, other)",
+        "way_to(one, other, *, only_on=False)",
+        "any_reason(one, other)",
+        "is_reason(one, other, value)",
+        "way_paper(one, other)",
+        "is_way_paper(one, other, value)",
+        "classes_of(rows)",
+        "round_trip(one, others)",
+    ),
+    "renamedown.decide.owners": (
+        "do_fit(row, owners)",
+        "least_owners(row)",
+        "exchange_owners(row, one, other)",
+        "moves_to_owners(row, owners)",
+        "count_owners(row)",
+        "each_owners(row)",
+        "owners_at(row, index)",
+        "index_of_owners(row, owners)",
+    ),
+    "renamedown.count.numbers": (
+        "is_lengths(value)",
+        "all_lengths(places)",
+        "cuts_of(lengths)",
+        "count_all(lengths, steps)",
+        "count_joined(lengths, steps)",
+        "handles_in(lengths, steps)",
+        "count_flat(lengths)",
+        "count_parted(parts)",
+    ),
 }
 
 CONSTANTS = {
     "renamedown.base.words": {"MAX_PLACES": 12, "MAX_STEPS": 24, "MAX_FIGURES": 200},
     "renamedown.rows.rows": {"MAX_PLACES": 12, "MAX_STEPS": 24},
     "renamedown.moves.passings": {"MAX_MOVES": 200000},
+    "renamedown.decide.ways": {"MAX_WAY": 200000},
+    "renamedown.count.numbers": {"MAX_PLACES": 12, "MAX_STEPS": 24},
 }
 
 ROW = {
@@ -163,9 +230,12 @@ class ExamplesTest(unittest.TestCase):
             names = {"TRIO": TRIO, "TWINS": TWINS, "LOOP": LOOP}
             for module in modules:
                 names.update(vars(import_module(module)))
-            examples = doctest.DocTestParser().get_doctest(text, names, modules[0], None, 0)
+            # The document tells an error by its class alone.
+            form = re.sub(r"^raises (\w+)$", r"Traceback (most recent call last):\n\1: ..", text, flags=re.M)
+            examples = doctest.DocTestParser().get_doctest(form, names, modules[0], None, 0)
             told = []
-            failed, tried = doctest.DocTestRunner().run(examples, out=told.append)
+            runner = doctest.DocTestRunner(optionflags=doctest.IGNORE_EXCEPTION_DETAIL)
+            failed, tried = runner.run(examples, out=told.append)
             self.assertEqual((failed, tried), (0, many), "".join(told))
 
 

@@ -151,7 +151,7 @@ def any_names(one, other):
     return tuple(names)
 
 
-def _are_lengths(value):
+def are_lengths(value):
     """Whether the value can be the ring lengths of a deed."""
     if not isinstance(value, tuple) or not all([is_integer(length) and length >= 1 for length in value]):
         return False
@@ -160,7 +160,7 @@ def _are_lengths(value):
 
 def count_deeds(lengths):
     """How many deeds have these ring lengths."""
-    if not _are_lengths(lengths):
+    if not are_lengths(lengths):
         raise InvalidOperation("these are no ring lengths")
     # Each ring can begin at each of its places, and rings of one length can stand in any order.
     alike = 1

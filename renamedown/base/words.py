@@ -64,6 +64,18 @@ def is_step(places, value):
     return is_exchange(places, value[:2]) and is_owner(value[2])
 
 
+def holds_boolean(value):
+    """Whether the value is True or False, or a tuple that has one of them in it somewhere."""
+    if isinstance(value, tuple):
+        return any([holds_boolean(part) for part in value])
+    return isinstance(value, bool)
+
+
+def is_among(choices, value):
+    """Whether the value is one of these integers, strings and tuples of such; True is not 1."""
+    return not holds_boolean(value) and value in choices
+
+
 def place_behind(place, exchange):
     """The place where an exchange puts the thing that lies at this place."""
     if place == exchange[0]:

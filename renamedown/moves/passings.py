@@ -103,13 +103,19 @@ def undone(moves):
     return tuple([(index, other_way(way)) for index, way in moves[::-1]])
 
 
-def only_on(moves):
-    """The moves with five passings on in the place of each one back."""
-    check_moves(moves)
+def all_on(moves):
+    """The moves, known to be such, with five passings on in the place of each one back."""
     times = [1 if way == "on" else _ROUND - 1 for _, way in moves]
-    if sum(times) > MAX_MOVES:
-        raise TooMany(MAX_MOVES)
     return tuple([(move[0], "on") for move, many in zip(moves, times) for _ in range(many)])
+
+
+def only_on(moves):
+    """The moves with five passings on in the place of each one back, if these are not too many."""
+    check_moves(moves)
+    back = [way for _, way in moves].count("back")
+    if len(moves) + (_ROUND - 2) * back > MAX_MOVES:
+        raise TooMany(MAX_MOVES)
+    return all_on(moves)
 
 
 def leading_moves(source, target, renamed):

@@ -1,0 +1,1 @@
+"""Numbers of rows, and lists of all of them."""

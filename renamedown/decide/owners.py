@@ -1,0 +1,152 @@
+"""Owners of the steps of a row: which strings of them fit, and moves that put them so."""
+
+from math import factorial
+
+from renamedown.base.words import check_number
+from renamedown.errors import InvalidOperation
+from renamedown.moves.owning import put_owners
+from renamedown.moves.plain import sign_of
+from renamedown.moves.trails import Trail
+from renamedown.rows.rows import check_row
+from renamedown.rows.webs import group_of, groups_of, steps_in
+
+
+def _step_groups(row):
+    """The groups to which the single steps belong."""
+    return [group_of(row, step[0]) for step in row.steps]
+
+
+def _letters_by_group(groups, letters):
+    """The dict from the groups to the letters of their steps, in alphabetical order."""
+    pairs = list(zip(groups, letters))
+    return {group: sorted([letter for other, letter in pairs if other == group]) for group in groups}
+
+
+def _letters_of(row):
+    """The dict from the groups that have steps to their owners, in alphabetical order."""
+    return _letters_by_group(_step_groups(row), [step[2] for step in row.steps])
+
+
+def do_fit(row, owners):
+    """Whether the row leads to the row with the same exchanges and these owners."""
+    check_row(row)
+    return sign_of(row.owned(owners)) == sign_of(row)
+
+
+def _check_fit(row, owners):
+    """Raise InvalidOperation unless the owners fit."""
+    if not do_fit(row, owners):
+        raise InvalidOperation("the owners do not fit the row")
+
+
+def _in_order(groups, letters):
+    """The least string with these letters in the groups of the steps."""
+    left = _letters_by_group(groups, letters)
+    return "".join([left[group].pop(0) for group in groups])
+
+
+def least_owners(row):
+    """The least string that fits."""
+    check_row(row)
+    return _in_order(_step_groups(row), [step[2] for step in row.steps])
+
+
+def moves_to_owners(row, owners):
+    """Moves by which the row becomes the one with the same exchanges and these owners."""
+    _check_fit(row, owners)
+    trail = Trail(row)
+    parts = [steps_in(row, group) for group in groups_of(row)]
+    for part in parts:
+        if len(part) > 0:
+            put_owners(trail, part, [owners[index] for index in part])
+    return trail.all_moves()
+
+
+def exchange_owners(row, one, other):
+    """Moves by which the owners of two steps are exchanged."""
+    check_row(row)
+    check_number(one, 0, len(row) - 1)
+    check_number(other, 0, len(row) - 1)
+    if group_of(row, row.steps[one][0]) != group_of(row, row.steps[other][0]):
+        raise InvalidOperation("the steps belong to different groups")
+    owners = [step[2] for step in row.steps]
+    owners[one], owners[other] = owners[other], owners[one]
+    return moves_to_owners(row, "".join(owners))
+
+
+def _orders_of(letters):
+    """How many orders these letters have."""
+    many = factorial(len(letters))
+    for letter in sorted(set(letters)):
+        many = many // factorial(letters.count(letter))
+    return many
+
+
+def count_owners(row):
+    """How many strings fit."""
+    check_row(row)
+    many = 1
+    for letters in _letters_of(row).values():
+        many = many * _orders_of(letters)
+    return many
+
+
+def _next_owners(groups, owners):
+    """The next greater string with the same letters in each group, or None."""
+    letters = list(owners)
+    for at in range(len(letters) - 1, -1, -1):
+        later = [k for k in range(at + 1, len(letters)) if groups[k] == groups[at] and letters[k] > letters[at]]
+        if later != []:
+            _, best = min([(letters[k], k) for k in later])
+            letters[at], letters[best] = letters[best], letters[at]
+            return "".join(letters[:at + 1]) + _in_order(groups[at + 1:], letters[at + 1:])
+    return None
+
+
+def each_owners(row):
+    """All strings that fit, ascending."""
+    check_row(row)
+    groups = _step_groups(row)
+    owners = least_owners(row)
+    while owners is not None:
+        yield owners
+        owners = _next_owners(groups, owners)
+
+
+def _count_ahead(total, letters, letter):
+    """How many of so many strings have a lesser letter first, of these letters in alphabetical order."""
+    return total * letters.index(letter) // len(letters)
+
+
+def _count_with(total, letters, letter):
+    """How many of so many strings have this letter first, of these letters."""
+    return total * letters.count(letter) // len(letters)
+
+
+def owners_at(row, index):
+    """The string with an index among all that fit, ascending."""
+    total = count_owners(row)
+    check_number(index, 0, total - 1)
+    left = _letters_of(row)
+    rest, owners = index, []
+    for group in _step_groups(row):
+        letters = left[group]
+        letter = max([one for one in letters if _count_ahead(total, letters, one) <= rest])
+        rest = rest - _count_ahead(total, letters, letter)
+        total = _count_with(total, letters, letter)
+        letters.remove(letter)
+        owners.append(letter)
+    return "".join(owners)
+
+
+def index_of_owners(row, owners):
+    """The index of a string among all that fit, ascending."""
+    _check_fit(row, owners)
+    left = _letters_of(row)
+    index, total = 0, count_owners(row)
+    for group, letter in zip(_step_groups(row), owners):
+        letters = left[group]
+        index = index + _count_ahead(total, letters, letter)
+        total = _count_with(total, letters, letter)
+        letters.remove(letter)
+    return index
