@@ -12,6 +12,8 @@ from tests.test_document import INTERFACE
 
 DEED, OTHER = (1, 0, 2), (0, 2, 1)
 SWAPPED = Row(3, ((0, 1, "b"), (1, 2, "a")))
+WISH = (DEED, ((0, 1), (2,)), ({"b": 2, "a": 1}, {}))
+RING, TREE, CODE = (0, 2, 1), ((0, 1), (0, 2)), (2, 0, 0)
 PAIR = Row(3, ((0, 1, "a"), (0, 1, "b"), (1, 2, "c")))
 RIGHT = {
     "is_integer": (3,), "is_count": (3,), "is_owner": ("a",), "is_number_of_places": (3,),
@@ -38,7 +40,17 @@ RIGHT = {
     "each_owners": (TRIO,), "owners_at": (TRIO, 1), "index_of_owners": (TRIO, "ba"),
     "is_lengths": ((1, 2),), "all_lengths": (4,), "cuts_of": ((1, 2),), "count_all": ((1, 2), 3),
     "count_joined": ((1, 2), 3), "handles_in": ((1, 2), 3), "count_flat": ((1, 2),),
-    "count_parted": ((((1, 2), 3), ((2,), 1)),),
+    "count_parted": ((((1, 2), 3), ((2,), 1)),), "class_size": (TRIO,), "class_rows": (TRIO,),
+    "place_in_class": (TRIO,), "first_counts": (TRIO,), "distance": (TRIO, SWAPPED),
+    "shortest_way": (TRIO, SWAPPED), "is_shortest_way": (TRIO, SWAPPED, ((0, "on"),) * 3), "farthest": (TRIO,),
+    "is_wish": (WISH,), "wish_of": (TRIO,), "can_be": (WISH,), "row_for": (WISH,), "reasons_against": (WISH,),
+    "wish_paper": (WISH,), "is_wish_paper": (WISH, ("row", TRIO)), "least_numbers": (DEED, ((0, 1), (2,))),
+    "row_with": (WISH, 1, (0, 1, "b")), "is_least": (DEED, ((0, 1),)), "count_least": (DEED,),
+    "least_tuples": (DEED,), "least_row": (DEED, ("z",)), "is_uncrossed": (RING, TREE), "rules_of": (RING, TREE),
+    "uncrossed_trees": (RING,), "count_orders": (RING, TREE), "any_order": (RING, TREE), "is_code": (4, CODE),
+    "code_of": (3, ((0, 1), (0, 2))), "exchanges_of": (4, CODE), "count_codes": (4,), "code_at": (4, 15),
+    ("renamedown.count.codes", "index_of"): (4, CODE), "count_behind": (4, (0, 1)), "each_code": (4,),
+    "turned_code": (4, CODE),
 }
 KEYWORDS = {"led": {"renamed": True}, "turned_over": {"many": 7}, "way_to": {"only_on": True}}
 ROW_CALLS = {
@@ -49,7 +61,7 @@ ROW_CALLS = {
 FORMS = (errors.InvalidRow, errors.InvalidDeed, errors.InvalidMoves, errors.InvalidOperation, errors.ParseError)
 # The errors that come behind all others.
 LATE = {"behind": FORMS[3:4], "renamed_deed": FORMS[3:4], "any_names": FORMS[3:4],
-        "double_led": FORMS[3:4], "double_renamed": FORMS[3:4]}
+        "double_led": FORMS[3:4], "double_renamed": FORMS[3:4], "least_row": FORMS[3:4]}
 THEN = (errors.NoWay, errors.TooMany)
 FEW = (None, True, -1, 99, LONG, "a", (), (0, 1), [0], {0: 1}, TRIO, LOOP, errors.InvalidNumber(1))
 
@@ -121,13 +133,14 @@ class ArgumentsTest(unittest.TestCase):
     def test_arguments_are_not_changed(self):
         values = [value for value in STRANGE if isinstance(value, (tuple, list, dict))]
         for name, call, right, more in calls():
-            kept = copy.deepcopy(values)
+            kept = copy.deepcopy([values, WISH])
             before = [str(row) + str(row.steps) for row in (TRIO, LOOP, PAIR)]
             for at in range(len(right)):
                 for value in values:
                     outcome(call, *with_one(right, at, value), **more)
             outcome(call, *right, **more)
-            self.assertEqual(kept, values, name)
+            self.assertEqual(kept, [values, WISH], name)
+            self.assertEqual(list(WISH[2][0]), ["b", "a"])
             self.assertEqual([str(row) + str(row.steps) for row in (TRIO, LOOP, PAIR)], before)
 
     def test_equal_calls_return_equal_results(self):

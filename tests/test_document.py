@@ -92,6 +92,47 @@ STAGE_9 = r"""
 [3, 1, True]
 """
 
+STAGE_10 = r"""
+>>> [class_size(TRIO), class_size(TWINS), class_size(LOOP), class_size(Row(3, ())), first_counts(TRIO), place_in_class(TRIO)]
+[6, 6, 486, 1, {(0, 1): 2, (0, 2): 2, (1, 2): 2}, 0]
+>>> [row.steps for row in class_rows(TWINS)][:2]
+[((0, 1, 'a'), (0, 1, 'c'), (3, 4, 'b')), ((0, 1, 'a'), (3, 4, 'b'), (0, 1, 'c'))]
+>>> [distance(TRIO, Row(3, ((0, 1, "b"), (1, 2, "a")))), farthest(TRIO), distance(TRIO, Row(3, ((0, 1, "a"), (1, 2, "a")))), is_shortest_way(TRIO, TRIO, ())]
+[3, 3, None, True]
+"""
+
+STAGE_11 = r"""
+>>> wish = wish_of(TWINS)
+>>> [wish, can_be(wish), wish_of(row_for(wish)) == wish, wish_paper(((1, 0), ((0, 1),), ({"a": 2},)))]
+[((0, 1, 2, 4, 3), ((0, 1), (2,), (3, 4)), ({'a': 1, 'c': 1}, {}, {'b': 1})), True, True, ('odd', (0, 1))]
+>>> [reasons_against(((1, 0, 2), ((0,), (1, 2)), ({"a": 1}, {}))), least_numbers((0, 1, 2, 3), ((0, 1, 2, 3),)), least_numbers((1, 2, 3, 0), ((0, 1, 2, 3),))]
+[(('apart', 0), ('apart', 1), ('alone', (0,))), (6,), (3,)]
+>>> [row_with(wish, 2, (0, 1, "c")).steps[2], wish_of(row_with(wish_of(LOOP), 0, (1, 3, "a"))) == wish_of(LOOP), is_wish_paper(wish, ("row", TWINS))]
+[(0, 1, 'c'), True, True]
+>>> row_with(wish, 0, (3, 4, "a"))
+raises NoWay
+"""
+
+STAGE_12 = r"""
+>>> [count_least((1, 2, 0)), least_tuples((1, 2, 0)), count_least((1, 0, 3, 2)), least_tuples((0, 1)), is_least((1, 2, 0), ((0, 2), (0, 1)))]
+[3, (((0, 1), (0, 2)), ((0, 2), (1, 2)), ((1, 2), (0, 1))), 2, ((),), False]
+>>> [is_uncrossed((0, 1, 2, 3), ((0, 1), (0, 2), (1, 3))), rules_of((0, 1, 2), ((0, 1), (0, 2))), len(uncrossed_trees((0, 1, 2, 3)))]
+[False, (((0, 1), (0, 2)),), 12]
+>>> [count_orders((0, 1, 2, 3), ((0, 1), (0, 2), (2, 3))), any_order((0, 1, 2, 3), ((0, 1), (1, 2), (2, 3))), count_least((1, 2, 3, 4, 5, 0))]
+[2, ((2, 3), (1, 2), (0, 1)), 1296]
+>>> least_row((1, 0, 2), ("z",)) == Row(3, ((0, 1, "z"),))
+True
+"""
+
+STAGE_13 = r"""
+>>> [code_of(3, ((0, 1), (0, 2))), exchanges_of(3, (0, 1)), exchanges_of(3, (1, 0)), is_code(4, (2, 0, 0)), is_code(4, (2, 1, 1)), count_codes(4)]
+[(0, 0), ((0, 2), (1, 2)), ((1, 2), (0, 1)), True, False, 16]
+>>> [code_at(3, 2), index_of(4, (0, 0, 2)), count_behind(4, (2,)), list(each_code(3)), exchanges_of(5, (1, 0, 1, 0)), turned_code(3, (0, 0))]
+[(1, 0), 2, 3, [(0, 0), (0, 1), (1, 0)], ((1, 2), (0, 3), (1, 3), (0, 4)), (0, 1)]
+>>> [count_codes(12) == 12 ** 10, exchanges_of(1, ()), exchanges_of(2, (0,)), code_at(6, 1295)]
+[True, (), ((0, 1),), (4, 3, 2, 1, 0)]
+"""
+
 # For each stage its examples, how many lines of input they have, and the modules whose names they use.
 EXAMPLES = (
     (STAGE_1, 2, ("renamedown.errors", "renamedown.base.words")),
@@ -103,6 +144,10 @@ EXAMPLES = (
     (STAGE_7, 6, ("renamedown.rows.rows", "renamedown.moves.passings", "renamedown.decide.ways",)),
     (STAGE_8, 3, ("renamedown.moves.passings", "renamedown.decide.owners",)),
     (STAGE_9, 3, ("renamedown.count.numbers",)),
+    (STAGE_10, 3, ("renamedown.count.classes",)),
+    (STAGE_11, 5, ("renamedown.decide.told",)),
+    (STAGE_12, 4, ("renamedown.rows.rows", "renamedown.count.least",)),
+    (STAGE_13, 3, ("renamedown.count.codes",)),
 )
 
 INTERFACE = {
@@ -205,6 +250,49 @@ INTERFACE = {
         "count_flat(lengths)",
         "count_parted(parts)",
     ),
+    "renamedown.count.classes": (
+        "class_size(row)",
+        "class_rows(row)",
+        "place_in_class(row)",
+        "first_counts(row)",
+        "distance(one, other)",
+        "shortest_way(one, other)",
+        "is_shortest_way(one, other, value)",
+        "farthest(row)",
+    ),
+    "renamedown.decide.told": (
+        "is_wish(value)",
+        "wish_of(row)",
+        "can_be(wish)",
+        "row_for(wish)",
+        "reasons_against(wish)",
+        "wish_paper(wish)",
+        "is_wish_paper(wish, value)",
+        "least_numbers(deed, groups)",
+        "row_with(wish, index, step)",
+    ),
+    "renamedown.count.least": (
+        "is_least(deed, value)",
+        "count_least(deed)",
+        "least_tuples(deed)",
+        "least_row(deed, owners)",
+        "is_uncrossed(ring, value)",
+        "rules_of(ring, tree)",
+        "uncrossed_trees(ring)",
+        "count_orders(ring, tree)",
+        "any_order(ring, tree)",
+    ),
+    "renamedown.count.codes": (
+        "is_code(places, value)",
+        "code_of(places, exchanges)",
+        "exchanges_of(places, code)",
+        "count_codes(places)",
+        "code_at(places, index)",
+        "index_of(places, code)",
+        "count_behind(places, begin)",
+        "each_code(places)",
+        "turned_code(places, code)",
+    ),
 }
 
 CONSTANTS = {
@@ -213,6 +301,9 @@ CONSTANTS = {
     "renamedown.moves.passings": {"MAX_MOVES": 200000},
     "renamedown.decide.ways": {"MAX_WAY": 200000},
     "renamedown.count.numbers": {"MAX_PLACES": 12, "MAX_STEPS": 24},
+    "renamedown.count.classes": {"MAX_CLASS": 5000},
+    "renamedown.count.least": {"MAX_LEAST": 5000, "MAX_TREES": 7},
+    "renamedown.count.codes": {"MAX_CODES": 7},
 }
 
 ROW = {

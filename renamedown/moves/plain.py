@@ -55,7 +55,7 @@ def singles_of(deed):
     return tuple(singles)
 
 
-def _plain_exchanges(deed, group, many):
+def plain_exchanges(deed, group, many):
     """The exchanges of the steps of a group, so many, in a plain row."""
     heads = [ring[0] for ring in rings_of(deed) if ring[0] in group]
     singles = [single for single in singles_of(deed) if single[0] in group]
@@ -70,7 +70,7 @@ def plain_of(sign):
     deed, groups, owners = sign
     steps = []
     for group, letters in zip(groups, owners):
-        exchanges = _plain_exchanges(deed, group, len(letters))
+        exchanges = plain_exchanges(deed, group, len(letters))
         steps.extend([exchange + (letter,) for exchange, letter in zip(exchanges, letters)])
     return Row(len(deed), tuple(steps))
 
