@@ -144,7 +144,7 @@ EXAMPLES = (
     (STAGE_7, 6, ("renamedown.rows.rows", "renamedown.moves.passings", "renamedown.decide.ways",)),
     (STAGE_8, 3, ("renamedown.moves.passings", "renamedown.decide.owners",)),
     (STAGE_9, 3, ("renamedown.count.numbers",)),
-    (STAGE_10, 3, ("renamedown.count.classes",)),
+    (STAGE_10, 3, ("renamedown.rows.rows", "renamedown.count.classes")),
     (STAGE_11, 5, ("renamedown.decide.told",)),
     (STAGE_12, 4, ("renamedown.rows.rows", "renamedown.count.least",)),
     (STAGE_13, 3, ("renamedown.count.codes",)),

@@ -9,13 +9,13 @@ ROOT = Path(__file__).resolve().parent.parent
 PACKAGE = ROOT / "renamedown"
 FILES = sorted(PACKAGE.rglob("*.py"))
 TREES = {path: ast.parse(path.read_text(encoding="utf-8")) for path in FILES}
-MATH = {"gcd", "lcm", "isqrt", "comb", "perm", "factorial"}
+LIBRARY = {"math": {"gcd", "lcm", "isqrt", "comb", "perm", "factorial"}, "itertools": {"chain"}}
 BUILTINS = set("""len range enumerate zip min max sum abs sorted reversed int str bool list tuple dict set isinstance
     ord repr any all divmod iter property classmethod staticmethod ValueError KeyError IndexError LookupError
-    RuntimeError ArithmeticError OverflowError TypeError""".split())
+    RuntimeError ArithmeticError OverflowError TypeError type""".split())
 # Of the methods of builtin values those that the package may call.
 METHODS = set("""append clear copy count endswith extend find get index insert items join keys pop remove replace
-    reverse setdefault split startswith strip update values zfill add discard""".split())
+    reverse setdefault split startswith strip update values zfill add discard bit_length from_iterable""".split())
 DOUBLE = set("""__init__ __eq__ __str__ __len__ __iter__ __add__ __contains__ __getitem__ __enter__ __exit__
     __call__""".split())
 # Of these the ones that change the list or dict.
@@ -109,7 +109,7 @@ class NamesTest(unittest.TestCase):
             self.assertEqual(node.level, 0, name)
             for one in node.names:
                 self.assertIsNone(one.asname)
-                known = MATH if node.module == "math" else files[node.module]
+                known = LIBRARY.get(node.module) or files[node.module]
                 self.assertIn(one.name, known, name)
 
     def test_each_name_is_bound_once(self):

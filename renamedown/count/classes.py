@@ -6,8 +6,9 @@ from renamedown.base.deeds import behind, exchange_deed, rings_of
 from renamedown.count.numbers import count_parted, counts_to, rooted_counts
 from renamedown.decide.owners import count_owners
 from renamedown.errors import TooMany
-from renamedown.moves.passings import is_moves, passed, row_passed
-from renamedown.rows.rows import Row, check_row
+from renamedown.moves.making import passed, row_passed
+from renamedown.moves.passings import is_moves
+from renamedown.rows.rows import check_row
 from renamedown.rows.webs import groups_of, rings_in, steps_in
 
 MAX_CLASS = 5000
@@ -108,7 +109,7 @@ def _class_steps(row):
 
 def class_rows(row):
     """All rows of the class, ascending by their steps."""
-    return tuple([Row(row.places, steps) for steps in _class_steps(row)])
+    return tuple([row.with_all(steps) for steps in _class_steps(row)])
 
 
 def place_in_class(row):

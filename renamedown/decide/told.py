@@ -1,10 +1,10 @@
 """Told rows: rows with a told deed and told groups and owners, or a reason why there are none."""
 
-from renamedown.base.deeds import behind, check_deed, exchange_deed, is_deed, rings_of
+from renamedown.base.deeds import behind, check_deed, exchange_deed, rings_of
 from renamedown.base.words import MAX_STEPS, check_number, is_among, is_integer, is_owner, is_step
 from renamedown.errors import InvalidNumber, InvalidOperation, NoWay
 from renamedown.moves.passings import led
-from renamedown.moves.plain import plain_exchanges, plain_of
+from renamedown.moves.plain import are_told, plain_exchanges, plain_of
 from renamedown.rows.rows import Row
 from renamedown.rows.webs import are_groups, groups_of, owner_counts
 
@@ -18,14 +18,7 @@ def _are_counts(value):
 
 def is_wish(value):
     """Whether the value is a wish."""
-    if not isinstance(value, tuple) or len(value) != 3:
-        return False
-    deed, groups, owners = value
-    if not is_deed(deed) or not are_groups(len(deed), groups):
-        return False
-    if not isinstance(owners, tuple) or len(owners) != len(groups):
-        return False
-    return all([_are_counts(counts) for counts in owners])
+    return are_told(value) and all([_are_counts(counts) for counts in value[2]])
 
 
 def wish_of(row):

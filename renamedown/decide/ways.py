@@ -2,7 +2,8 @@
 
 from renamedown.base.words import is_among
 from renamedown.errors import InvalidOperation, NoWay
-from renamedown.moves.passings import all_on, is_moves, row_passed, undone
+from renamedown.moves.making import row_passed
+from renamedown.moves.passings import all_on, is_moves, undone
 from renamedown.moves.plain import moves_to_plain, sign_of
 from renamedown.rows.rows import Row, check_row
 from renamedown.rows.webs import group_of, owner_counts

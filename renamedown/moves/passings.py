@@ -1,8 +1,11 @@
 """Passings: two neighbours of a row pass one another, and one of them is renamed."""
 
-from renamedown.base.words import MAX_STEPS, check_number, exchange_behind, is_below, is_integer
+from itertools import chain
+
+from renamedown.base.words import MAX_STEPS, check_number, is_integer
 from renamedown.errors import InvalidMoves, InvalidNumber, InvalidOperation, TooMany
-from renamedown.rows.rows import Row, check_row
+from renamedown.moves.making import blocks_of, found_for, row_behind, row_passed
+from renamedown.rows.rows import check_row
 
 MAX_MOVES = 200000
 
@@ -10,33 +13,34 @@ _MAX_ROWS = 2000
 _ROUND = 6
 
 
-def passed(one, other, way):
-    """The two steps in which a step and the next one end by a passing."""
-    if way == "on":
-        return (other, exchange_behind(one, other) + (one[2],))
-    return (exchange_behind(other, one) + (other[2],), one)
+def _have_no_boolean(moves):
+    """Whether no index of these pairs is True or False, which are equal to indices."""
+    return [index for index, _ in moves if index is True or index is False] == []
 
 
-def row_passed(row, moves):
-    """The row behind moves that are known to be moves of the row."""
-    steps = list(row.steps)
-    for index, way in moves:
-        steps[index], steps[index + 1] = passed(steps[index], steps[index + 1], way)
-    return Row(row.places, tuple(steps))
-
-
-def _is_move(value, last):
-    """Whether the value is a move with an index of at most the last one."""
-    if not isinstance(value, tuple) or len(value) != 2:
+def _are_right(moves, last):
+    """Whether these values, at least one, are moves with indices of at most the last one."""
+    sizes = [len(move) for move in moves if type(move) == tuple]
+    if sizes.count(2) < len(moves):
         return False
-    return is_below(last + 1, value[0]) and value[1] in ("on", "back")
+    indices = [index for index, way in moves if type(index) == int and (way == "on" or way == "back")]
+    if len(indices) < len(moves):
+        return False
+    told = sorted(set(indices))
+    return told[0] >= 0 and told[-1] <= last
 
 
 def are_moves(value, last):
     """Whether the value is a tuple of moves, not too many, with indices of at most the last one."""
     if not isinstance(value, tuple) or len(value) > MAX_MOVES:
         return False
-    return all([_is_move(move, last) for move in value])
+    before = None
+    for block in blocks_of(value):
+        # A block that is equal to the one before can only be wrong by booleans.
+        if not (_have_no_boolean(block) if block == before else _are_right(block, last)):
+            return False
+        before = block
+    return True
 
 
 def check_moves(moves):
@@ -54,13 +58,13 @@ def check_pair(row, index):
 def pass_on(row, index):
     """The row behind a passing on."""
     check_pair(row, index)
-    return row_passed(row, ((index, "on"),))
+    return row_behind(row, (index, "on"))
 
 
 def pass_back(row, index):
     """The row behind a passing back."""
     check_pair(row, index)
-    return row_passed(row, ((index, "back"),))
+    return row_behind(row, (index, "back"))
 
 
 def is_moves(row, value):
@@ -87,8 +91,12 @@ def rows_along(row, moves):
     if len(moves) > _MAX_ROWS:
         raise TooMany(_MAX_ROWS)
     rows = [row]
+    before, many = None, 0
     for move in moves:
-        rows.append(row_passed(rows[-1], (move,)))
+        many = many + 1 if move == before else 1
+        before = move
+        # Six equal moves lead back, so the row behind the sixth one is there already.
+        rows.append(rows[-_ROUND] if many >= _ROUND else row_behind(rows[-1], move))
     return tuple(rows)
 
 
@@ -97,22 +105,28 @@ def other_way(way):
     return "back" if way == "on" else "on"
 
 
+def _all_moves():
+    """All moves that a row can have."""
+    return [(index, way) for index in range(MAX_STEPS - 1) for way in ("on", "back")]
+
+
 def undone(moves):
     """The moves that lead back."""
     check_moves(moves)
-    return tuple([(index, other_way(way)) for index, way in moves[::-1]])
+    table = {(index, way): (index, other_way(way)) for index, way in _all_moves()}
+    return tuple(found_for(moves[::-1], table))
 
 
 def all_on(moves):
     """The moves, known to be such, with five passings on in the place of each one back."""
-    times = [1 if way == "on" else _ROUND - 1 for _, way in moves]
-    return tuple([(move[0], "on") for move, many in zip(moves, times) for _ in range(many)])
+    table = {(index, way): ((index, "on"),) * (1 if way == "on" else _ROUND - 1) for index, way in _all_moves()}
+    return tuple(chain.from_iterable(found_for(moves, table)))
 
 
 def only_on(moves):
     """The moves with five passings on in the place of each one back, if these are not too many."""
     check_moves(moves)
-    back = [way for _, way in moves].count("back")
+    back = len([1 for _, way in moves if way == "back"])
     if len(moves) + (_ROUND - 2) * back > MAX_MOVES:
         raise TooMany(MAX_MOVES)
     return all_on(moves)

@@ -28,15 +28,21 @@ def _are_group_owners(deed, group, owners):
     return handles_from(len(group), len(rings), len(owners)) is not None
 
 
-def is_sign(value):
-    """Whether the value is the sign of some row."""
+def are_told(value):
+    """Whether the value is a triple of a deed, of groups of its places, and of a tuple with as many parts."""
     if not isinstance(value, tuple) or len(value) != 3:
         return False
-    deed, groups, owners = value
+    deed, groups, parts = value
     if not is_deed(deed) or not are_groups(len(deed), groups):
         return False
-    if not isinstance(owners, tuple) or len(owners) != len(groups):
+    return isinstance(parts, tuple) and len(parts) == len(groups)
+
+
+def is_sign(value):
+    """Whether the value is the sign of some row."""
+    if not are_told(value):
         return False
+    deed, groups, owners = value
     if not all([_are_group_owners(deed, group, letters) for group, letters in zip(groups, owners)]):
         return False
     return sum([len(letters) for letters in owners]) <= MAX_STEPS

@@ -1,7 +1,7 @@
 """A trail: steps that pass one another, and the moves that were made."""
 
-from renamedown.moves.passings import leading_moves, other_way, passed
-from renamedown.rows.rows import Row
+from renamedown.moves.making import passed
+from renamedown.moves.passings import leading_moves, other_way
 
 
 class Trail:
@@ -65,7 +65,7 @@ class Trail:
 
     def end_row(self):
         """The row behind all moves."""
-        return Row(self.start.places, tuple(self.now))
+        return self.start.with_all(tuple(self.now))
 
     def all_moves(self):
         """The tuple of all moves."""

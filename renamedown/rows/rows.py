@@ -140,6 +140,12 @@ class Row:
         check_number(places, self._places, MAX_PLACES)
         return Row(places, self._steps)
 
+    def with_all(self, steps):
+        """The row with as many places and these steps, which are known to be steps of such a row."""
+        made = Row(self._places)
+        made._steps = steps
+        return made
+
     def __add__(self, other):
         if not isinstance(other, Row) or other._places != self._places:
             raise InvalidOperation("the other value must be a row with as many places")
