@@ -101,6 +101,9 @@ class LeastTest(Case):
         self.assertEqual(count_least(seven), 7776)
         self.assertEqual(self.told(TooMany, least_tuples, seven).limit, 5000)
         self.assertEqual(self.told(TooMany, least_tuples, TWELVE).limit, 5000)
+        above = (1, 2, 3, 0, 5, 6, 7, 4)  # two rings of four places: 20 * 16 * 16
+        self.assertEqual((count_least(above), self.told(TooMany, least_tuples, above).limit), (5120, 5000))
+        self.assertEqual(len(set(least_tuples((1, 2, 3, 4, 0, 6, 5, 8, 7)))), 3750)
         below = (1, 2, 0, 4, 5, 3, 7, 8, 6)  # three rings of three places: 6! / 8 * 27
         told = least_tuples(below)
         self.assertEqual((len(told), list(told)), (2430, sorted(set(told))))

@@ -196,6 +196,11 @@ class ReasonTest(Case):
             self.assertIs(is_reason(one, other, value), False)
             self.assertIs(is_way_paper(one, other, ("reason", value)), False)
 
+    def test_words_of_papers(self):
+        self.assertIs(is_way_paper(TWINS, APART, ("reason", ("owner", 0, "b"))), True)
+        for word in ("Reason", "moves", "", "deed", None, 0, TWINS, ("reason",)):
+            self.assertIs(is_way_paper(TWINS, APART, (word, ("owner", 0, "b"))), False)
+
     def test_every_value_is_judged(self):
         self.assertEqual(self.judged(is_reason, TWINS, APART), [])
         self.assertEqual(self.judged(is_way_paper, TWINS, APART), [])

@@ -147,8 +147,8 @@ def distance(one, other):
 def is_shortest_way(one, other, value):
     """Whether the value is a shortest way, or None if there is no way."""
     many = distance(one, other)
-    if many is None or value is None:
-        return many is None and value is None
+    if many is None:
+        return value is None
     return is_moves(one, value) and len(value) == many and row_passed(one, value) == other
 
 

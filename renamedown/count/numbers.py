@@ -76,7 +76,7 @@ def _counts_of(places, most):
 
 def counts_to(places, most):
     """The numbers of tuples of at most so many exchanges, for all ring lengths of at most so many places."""
-    counts = {(): [1] + [0] * most}
+    counts = {}
     for many in range(1, places + 1):
         counts.update(_counts_of(many, most))
     return counts
