@@ -61,7 +61,7 @@ def exchanges_of(places, code):
     rings = [tuple(range(places))]
     exchanges = []
     for at, low in enumerate(code):
-        ring = [ring for ring in rings if low in ring][0]
+        ring = [part for part in rings if low in part][0]
         high = _high_for(ring, low, code[at + 1:])
         rings = [other for other in rings if other != ring] + list(_parted(ring, low, high))
         exchanges.append((low, high))

@@ -18,8 +18,10 @@ def _step_groups(row):
 
 def _letters_by_group(groups, letters):
     """The dict from the groups to the letters of their steps, in alphabetical order."""
-    pairs = list(zip(groups, letters))
-    return {group: sorted([letter for other, letter in pairs if other == group]) for group in groups}
+    found = {}
+    for group, letter in zip(groups, letters):
+        found.setdefault(group, []).append(letter)
+    return {group: sorted(part) for group, part in found.items()}
 
 
 def _letters_of(row):

@@ -117,7 +117,7 @@ def _exchanges_from(deed, group, exchange, many):
     if many - 1 >= _least_number(left, group):
         return [exchange] + plain_exchanges(left, group, many - 1)
     # There are just too few to join the group once more, so the first one must join two parts of it.
-    ring = [ring for ring in rings_of(left) if exchange[1] in ring][0]
+    ring = [part for part in rings_of(left) if exchange[1] in part][0]
     parts = (tuple(sorted(ring)), tuple([place for place in group if place not in ring]))
     inner = [plain_exchanges(left, part, _least_number(left, part)) for part in parts]
     return [exchange] + inner[0] + inner[1]
