@@ -7,6 +7,7 @@ from importlib import import_module
 
 from renamedown import errors
 from renamedown.rows.rows import Row
+from renamedown.use.desk import Desk
 from tests.common import LONG, LOOP, STRANGE, TRIO
 from tests.test_document import INTERFACE
 
@@ -50,19 +51,28 @@ RIGHT = {
     "uncrossed_trees": (RING,), "count_orders": (RING, TREE), "any_order": (RING, TREE), "is_code": (4, CODE),
     "code_of": (3, ((0, 1), (0, 2))), "exchanges_of": (4, CODE), "count_codes": (4,), "code_at": (4, 15),
     ("renamedown.count.codes", "index_of"): (4, CODE), "count_behind": (4, (0, 1)), "each_code": (4,),
-    "turned_code": (4, CODE),
+    "turned_code": (4, CODE), "kind_of": (TRIO,), "are_alike": (TRIO, SWAPPED), "any_likeness": (TRIO, SWAPPED),
+    "is_likeness": (TRIO, SWAPPED, (0, 1, 2)), "count_own": (TRIO,), "is_own": (TRIO, (0, 1, 2)), "repeated": (TRIO, 2),
+    "sent_back": (TRIO, 5), "write_row": (TRIO,), "read_row": ("3 places\n0 1 a",), "write_moves": (((0, "on"),),),
+    "read_moves": ("0 on\n1 back",), "write_paper": (("reason", ("deed", 1)),), "read_paper": ("moves\n1 back",),
 }
-KEYWORDS = {"led": {"renamed": True}, "turned_over": {"many": 7}, "way_to": {"only_on": True}}
+KEYWORDS = {"led": {"renamed": True}, "turned_over": {"many": 7}, "way_to": {"only_on": True}, "lead": {"renamed": True},
+            "undo": {"many": 0}}
 ROW_CALLS = {
     "path": (2,), "thing_at": (0, 4), "with_step": (4, (1, 3, "z")), "without_step": (3,), "part": (0, 4),
     "backwards": (), "renamed": ((3, 2, 1, 0),), "owned": ("zyxw",), "wider": (5,), "__add__": (LOOP,),
     "__getitem__": (0,),
 }
-FORMS = (errors.InvalidRow, errors.InvalidDeed, errors.InvalidMoves, errors.InvalidOperation, errors.ParseError)
+DESK_CALLS = {
+    "pass_on": (0,), "pass_back": (2,), "lead": (3, 0), "put": (4, (1, 3, "z")), "take": (3,), "own": (2, "q"),
+    "make_plain": (), "lock": (1,), "is_reached": (TRIO,), "undo": (), "__getitem__": (3,),
+}
+FORMS = (errors.InvalidRow, errors.InvalidDeed, errors.InvalidMoves, errors.InvalidOperation, errors.InvalidPaper,
+         errors.ParseError)
 # The errors that come behind all others.
 LATE = {"behind": FORMS[3:4], "renamed_deed": FORMS[3:4], "any_names": FORMS[3:4],
         "double_led": FORMS[3:4], "double_renamed": FORMS[3:4], "least_row": FORMS[3:4]}
-THEN = (errors.NoWay, errors.TooMany)
+THEN = (errors.NoWay, errors.TooMany, errors.NothingToUndo, errors.Locked)
 FEW = (None, True, -1, 99, LONG, "a", (), (0, 1), [0], {0: 1}, TRIO, LOOP, errors.InvalidNumber(1))
 
 
@@ -93,6 +103,14 @@ def calls():
     yield "from_lines", Row.from_lines, (3, ("0 1 a",)), {}
     for name, right in ROW_CALLS.items():
         yield name, getattr(LOOP, name), right, {}
+    yield "Desk", Desk, (LOOP,), {}
+    for name, right in DESK_CALLS.items():
+        yield name, on_a_desk(name), right, KEYWORDS.get(name, {})
+
+
+def on_a_desk(name):
+    """A function that calls a method of a new desk."""
+    return lambda *arguments, **more: getattr(Desk(LOOP), name)(*arguments, **more)
 
 
 def with_one(right, at, value):

@@ -133,6 +133,34 @@ STAGE_13 = r"""
 [True, (), ((0, 1),), (4, 3, 2, 1, 0)]
 """
 
+STAGE_14 = r"""
+>>> [kind_of(TWINS), kind_of(LOOP)]
+[((1, (1,), ()), (2, (1, 1), (('a', 1), ('c', 1))), (2, (2,), (('b', 1),))), ((4, (1, 3), (('a', 2), ('b', 2))),)]
+>>> [are_alike(TRIO, TRIO.backwards()), is_likeness(TRIO, TRIO.backwards(), (0, 2, 1)), count_own(TRIO), count_own(TWINS), count_own(Row(4)), is_own(TRIO, (2, 0, 1))]
+[True, True, 3, 4, 24, True]
+>>> [repeated(TRIO, 3).deed, sent_back(LOOP, 1).steps, is_likeness(LOOP, sent_back(LOOP, 1), (1, 0, 2, 3)), any_likeness(TRIO, Row(3))]
+[(0, 1, 2), ((1, 2, 'b'), (2, 3, 'a'), (0, 3, 'b'), (0, 1, 'a')), True, None]
+"""
+
+STAGE_15 = r"""
+>>> desk = Desk(LOOP)
+>>> [desk.lock(1), desk.free_moves, desk.pass_on(0), desk.locks, desk[1], desk.pass_back(2), desk.row.steps]
+[None, ((0, 'on'), (1, 'back'), (2, 'back'), (2, 'on')), None, (0,), (0, 2, 'a'), None, ((1, 2, 'b'), (0, 2, 'a'), (0, 2, 'b'), (2, 3, 'a'))]
+>>> [desk.is_reached(LOOP), desk.undo(many=2), desk.lead(3, 0, renamed=True), desk.locks, desk[0], desk.changes, str(desk)]
+[True, None, None, (2,), (0, 1, 'b'), 2, 'desk of 4 steps, 1 locks']
+>>> desk.take(2)
+raises Locked
+>>> desk.lead(0, 3)
+raises Locked
+"""
+
+STAGE_16 = r"""
+>>> [write_row(TRIO), read_row("2 places\n0 1 z") == Row(2, ((0, 1, "z"),)), write_moves(((0, "on"), (3, "back"))), read_moves("nothing"), write_paper(("reason", ("joined", 0, 3)))]
+['3 places\n0 1 a\n1 2 b', True, '0 on\n3 back', (), 'reason joined 0 3']
+>>> [write_paper(("moves", ())), read_paper("moves\n1 back"), read_paper("reason owner 4 b")]
+['moves\nnothing', ('moves', ((1, 'back'),)), ('reason', ('owner', 4, 'b'))]
+"""
+
 # For each stage its examples, how many lines of input they have, and the modules whose names they use.
 EXAMPLES = (
     (STAGE_1, 2, ("renamedown.errors", "renamedown.base.words")),
@@ -148,6 +176,9 @@ EXAMPLES = (
     (STAGE_11, 5, ("renamedown.decide.told",)),
     (STAGE_12, 4, ("renamedown.rows.rows", "renamedown.count.least",)),
     (STAGE_13, 3, ("renamedown.count.codes",)),
+    (STAGE_14, 3, ("renamedown.rows.rows", "renamedown.rows.names")),
+    (STAGE_15, 5, ("renamedown.use.desk",)),
+    (STAGE_16, 2, ("renamedown.rows.rows", "renamedown.text.texts")),
 )
 
 INTERFACE = {
@@ -293,6 +324,24 @@ INTERFACE = {
         "each_code(places)",
         "turned_code(places, code)",
     ),
+    "renamedown.rows.names": (
+        "kind_of(row)",
+        "are_alike(one, other)",
+        "any_likeness(one, other)",
+        "is_likeness(one, other, value)",
+        "count_own(row)",
+        "is_own(row, value)",
+        "repeated(row, times)",
+        "sent_back(row, times)",
+    ),
+    "renamedown.text.texts": (
+        "write_row(row)",
+        "read_row(text)",
+        "write_moves(moves)",
+        "read_moves(text)",
+        "write_paper(paper)",
+        "read_paper(text)",
+    ),
 }
 
 CONSTANTS = {
@@ -312,6 +361,14 @@ ROW = {
     "backwards": "(self)", "renamed": "(self, names)", "owned": "(self, owners)", "wider": "(self, places)",
     "__add__": "(self, other)", "__len__": "(self)", "__iter__": "(self)", "__eq__": "(self, other)",
     "__str__": "(self)",
+}
+
+DESK = {
+    "__init__": "(self, row)", "pass_on": "(self, index)", "pass_back": "(self, index)",
+    "lead": "(self, source, target, *, renamed=False)", "put": "(self, index, step)", "take": "(self, index)",
+    "own": "(self, index, owner)", "make_plain": "(self)", "lock": "(self, index)", "unlock": "(self, index)",
+    "is_reached": "(self, value)", "undo": "(self, *, many=1)", "twin": "(self)", "trial": "(self)",
+    "during": "(self, call)", "__len__": "(self)", "__iter__": "(self)", "__eq__": "(self, other)", "__str__": "(self)",
 }
 
 
@@ -345,17 +402,25 @@ class InterfaceTest(unittest.TestCase):
             for name, value in told.items():
                 self.assertEqual(getattr(import_module(module), name), value)
 
+    def check_class(self, module, name, methods, properties, operators):
+        """Check that the class has all of these in its own body."""
+        told = getattr(import_module(module), name)
+        self.assertEqual(told.__module__, module)
+        for method, parameters in methods.items():
+            self.assertEqual(str(inspect.signature(vars(told)[method])), parameters)
+        for one in properties:
+            self.assertIsInstance(vars(told)[one], property)
+        for one in operators:
+            self.assertIn(one, vars(told))
+        return told
+
     def test_methods_are_defined_in_the_class_itself(self):
-        row = import_module("renamedown.rows.rows").Row
-        self.assertEqual(row.__module__, "renamedown.rows.rows")
-        for name, parameters in ROW.items():
-            self.assertEqual(str(inspect.signature(vars(row)[name])), parameters)
-        for name in ("places", "steps", "lines", "exchanges", "owners", "deed"):
-            self.assertIsInstance(vars(row)[name], property)
+        row = self.check_class("renamedown.rows.rows", "Row", ROW,
+                               ("places", "steps", "lines", "exchanges", "owners", "deed"), ("__getitem__", "__contains__"))
         self.assertIsInstance(vars(row)["from_lines"], classmethod)
         self.assertEqual(str(inspect.signature(row.from_lines)), "(places, lines)")
-        for name in ("__getitem__", "__contains__"):
-            self.assertIn(name, vars(row))
+        self.check_class("renamedown.use.desk", "Desk", DESK, ("row", "locks", "wish", "free_moves", "changes"),
+                         ("__getitem__", "__contains__"))
 
 
 if __name__ == "__main__":

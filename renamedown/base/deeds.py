@@ -158,17 +158,22 @@ def are_lengths(value):
     return list(value) == sorted(value) and is_number_of_places(sum(value))
 
 
+def count_turns(lengths):
+    """In how many ways the rings of a deed with these ring lengths can be put onto one another."""
+    # Each ring can begin at each of its places, and rings of one length can stand in any order.
+    many = 1
+    for length in lengths:
+        many = many * length
+    for length in sorted(set(lengths)):
+        many = many * factorial(lengths.count(length))
+    return many
+
+
 def count_deeds(lengths):
     """How many deeds have these ring lengths."""
     if not are_lengths(lengths):
         raise InvalidOperation("these are no ring lengths")
-    # Each ring can begin at each of its places, and rings of one length can stand in any order.
-    alike = 1
-    for length in lengths:
-        alike = alike * length
-    for length in sorted(set(lengths)):
-        alike = alike * factorial(lengths.count(length))
-    return factorial(sum(lengths)) // alike
+    return factorial(sum(lengths)) // count_turns(lengths)
 
 
 def deed_at(places, index):

@@ -105,7 +105,7 @@ def other_way(way):
     return "back" if way == "on" else "on"
 
 
-def _all_moves():
+def every_move():
     """All moves that a row can have."""
     return [(index, way) for index in range(MAX_STEPS - 1) for way in ("on", "back")]
 
@@ -113,13 +113,13 @@ def _all_moves():
 def undone(moves):
     """The moves that lead back."""
     check_moves(moves)
-    table = {(index, way): (index, other_way(way)) for index, way in _all_moves()}
+    table = {(index, way): (index, other_way(way)) for index, way in every_move()}
     return tuple(found_for(moves[::-1], table))
 
 
 def all_on(moves):
     """The moves, known to be such, with five passings on in the place of each one back."""
-    table = {(index, way): ((index, "on"),) * (1 if way == "on" else _ROUND - 1) for index, way in _all_moves()}
+    table = {(index, way): ((index, "on"),) * (1 if way == "on" else _ROUND - 1) for index, way in every_move()}
     return tuple(chain.from_iterable(found_for(moves, table)))
 
 
@@ -141,14 +141,19 @@ def leading_moves(source, target, renamed):
     return tuple([(index, way) for index in range(source - 1, target - 1, -1)])
 
 
-def led(row, source, target, *, renamed=False):
-    """The row behind leading a step from one index to another one, and the moves."""
+def moves_of_lead(row, source, target, renamed):
+    """The moves that lead a step of the row from one index to another one, if all of this is right."""
     check_row(row)
     check_number(source, 0, len(row) - 1)
     check_number(target, 0, len(row) - 1)
     if not isinstance(renamed, bool):
         raise InvalidOperation("renamed must be True or False")
-    moves = leading_moves(source, target, renamed)
+    return leading_moves(source, target, renamed)
+
+
+def led(row, source, target, *, renamed=False):
+    """The row behind leading a step from one index to another one, and the moves."""
+    moves = moves_of_lead(row, source, target, renamed)
     return (row_passed(row, moves), moves)
 
 

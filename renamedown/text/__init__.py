@@ -1,0 +1,1 @@
+"""Texts of rows, moves and papers, and commands."""
