@@ -4,6 +4,7 @@ import unittest
 
 from renamedown.errors import InvalidNumber, NoWay, ParseError
 from renamedown.rows.rows import Row
+from renamedown.text.shell import Shell
 from renamedown.use.desk import Desk
 
 TRIO = Row(3, ((0, 1, "a"), (1, 2, "b")))
@@ -33,7 +34,7 @@ STRANGE = (
     [], [0], [0, 1], [(0, 1, "a")], [[[[]]]], {}, {0: 1}, {"a": (1, [2])}, {(0, 1): None},
     nested(0), nested("a"), nested([{}]),
     TRIO, TWINS, LOOP, Row(1), Row(12), InvalidNumber(3), NoWay((1, 2)), ParseError(None),
-    Desk(LOOP),
+    Desk(LOOP), Shell(Desk(TRIO)),
 )
 
 

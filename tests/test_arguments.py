@@ -7,6 +7,7 @@ from importlib import import_module
 
 from renamedown import errors
 from renamedown.rows.rows import Row
+from renamedown.text.shell import Shell
 from renamedown.use.desk import Desk
 from tests.common import LONG, LOOP, STRANGE, TRIO
 from tests.test_document import INTERFACE
@@ -16,6 +17,8 @@ SWAPPED = Row(3, ((0, 1, "b"), (1, 2, "a")))
 WISH = (DEED, ((0, 1), (2,)), ({"b": 2, "a": 1}, {}))
 RING, TREE, CODE = (0, 2, 1), ((0, 1), (0, 2)), (2, 0, 0)
 PAIR = Row(3, ((0, 1, "a"), (0, 1, "b"), (1, 2, "c")))
+WHOLE, INNER = (1, 2, 0), (1, 0, 2)
+SHARES = (INNER, (2, 1, 0))
 RIGHT = {
     "is_integer": (3,), "is_count": (3,), "is_owner": ("a",), "is_number_of_places": (3,),
     "is_exchange": (3, (0, 1)), "is_step": (3, (0, 1, "a")), "renamed_exchange": ((0, 1), (1, 2)),
@@ -55,6 +58,16 @@ RIGHT = {
     "is_likeness": (TRIO, SWAPPED, (0, 1, 2)), "count_own": (TRIO,), "is_own": (TRIO, (0, 1, 2)), "repeated": (TRIO, 2),
     "sent_back": (TRIO, 5), "write_row": (TRIO,), "read_row": ("3 places\n0 1 a",), "write_moves": (((0, "on"),),),
     "read_moves": ("0 on\n1 back",), "write_paper": (("reason", ("deed", 1)),), "read_paper": ("moves\n1 back",),
+    "rest_of": (INNER, WHOLE), "lies_in": (INNER, WHOLE), "any_apartness": (INNER, WHOLE),
+    "is_apartness": (INNER, WHOLE, ("apart", 0, 1)), "between_paper": (INNER, WHOLE),
+    "is_between_paper": (INNER, WHOLE, ("way", ((0, 1), (0, 2)))), "count_within": (WHOLE,), "count_by_steps": (WHOLE,),
+    "deeds_within": (WHOLE,), "meet": (WHOLE, INNER, OTHER), "join": (WHOLE, INNER, OTHER), "mate_behind": (WHOLE, INNER),
+    "mate_ahead": (WHOLE, INNER), "is_rise": (WHOLE, (INNER, WHOLE)), "count_rises": (WHOLE, 2), "rises": (WHOLE, 2),
+    "is_full_chain": (WHOLE, ((0, 1, 2), INNER, WHOLE)), "chain_of": (WHOLE, ((0, 1), (0, 2))),
+    "exchanges_between": (WHOLE, ((0, 1, 2), INNER, WHOLE)), "balance": (WHOLE, INNER), "is_shares": (WHOLE, SHARES),
+    "count_shares": (WHOLE, 2), "all_shares": (WHOLE, 2), "share_behind": (WHOLE, (INNER,)),
+    "shares_passed": (WHOLE, SHARES, 0, "on"), "shares_of": (Row(3, ((0, 1, "a"), (0, 2, "b"))), (1,)),
+    "row_of_shares": (WHOLE, SHARES), "count_kinds": (((1, 2), (1, 2)),),
 }
 KEYWORDS = {"led": {"renamed": True}, "turned_over": {"many": 7}, "way_to": {"only_on": True}, "lead": {"renamed": True},
             "undo": {"many": 0}}
@@ -69,9 +82,11 @@ DESK_CALLS = {
 }
 FORMS = (errors.InvalidRow, errors.InvalidDeed, errors.InvalidMoves, errors.InvalidOperation, errors.InvalidPaper,
          errors.ParseError)
-# The errors that come behind all others.
+# The errors that come behind all others, or that tell that arguments do not go together.
 LATE = {"behind": FORMS[3:4], "renamed_deed": FORMS[3:4], "any_names": FORMS[3:4],
-        "double_led": FORMS[3:4], "double_renamed": FORMS[3:4], "least_row": FORMS[3:4]}
+        "double_led": FORMS[3:4], "double_renamed": FORMS[3:4], "least_row": FORMS[3:4],
+        **dict.fromkeys(("rest_of", "lies_in", "any_apartness", "is_apartness", "between_paper", "is_between_paper", "meet",
+                         "join", "mate_behind", "mate_ahead", "balance", "chain_of", "exchanges_between", "share_behind"), FORMS[3:4])}
 THEN = (errors.NoWay, errors.TooMany, errors.NothingToUndo, errors.Locked)
 FEW = (None, True, -1, 99, LONG, "a", (), (0, 1), [0], {0: 1}, TRIO, LOOP, errors.InvalidNumber(1))
 
@@ -106,6 +121,8 @@ def calls():
     yield "Desk", Desk, (LOOP,), {}
     for name, right in DESK_CALLS.items():
         yield name, on_a_desk(name), right, KEYWORDS.get(name, {})
+    yield "Shell", lambda desk: str(Shell(desk)), (Desk(LOOP),), {}
+    yield "shell", Shell(Desk(LOOP)), ("on 9",), {}
 
 
 def on_a_desk(name):

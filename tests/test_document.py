@@ -161,6 +161,48 @@ STAGE_16 = r"""
 ['moves\nnothing', ('moves', ((1, 'back'),)), ('reason', ('owner', 4, 'b'))]
 """
 
+SHELL = r"""
+>>> shell = Shell(Desk(LOOP))
+>>> [shell("row"), shell("deed"), shell("groups"), shell("path 0"), shell("class"), shell("settled"), shell("lock 1"), shell("moves"), shell("back 0")]
+['0 1 a; 1 2 b; 2 3 a; 0 3 b', '(0)(1 3 2)', '0 1 2 3', '0 1 2 3 0', '486', 'no', 'ok', '0 on; 1 back; 2 back; 2 on', 'locked 1 2 b']
+>>> [shell("on 0"), shell("locks"), shell("reached 0 1 a; 1 2 b; 2 3 a; 0 3 b"), shell("reached none"), shell("own 1 b"), shell("undo 4"), shell("on 3"), shell("Row"), str(shell)]
+['ok', '0', 'yes', 'no', 'ok', 'nothing', 'number', 'what', 'shell of desk of 4 steps, 1 locks']
+"""
+
+STAGE_17 = r"""
+>>> [lies_in((1, 0, 2), (1, 2, 0)), rest_of((1, 0, 2), (1, 2, 0)), lies_in((2, 0, 1), (1, 2, 0)), any_apartness((2, 0, 1), (1, 2, 0))[0], lies_in((0, 1, 2), (0, 1, 2))]
+[True, (2, 1, 0), False, 'round', True]
+>>> [is_apartness((2, 3, 0, 1), (1, 2, 3, 0), ("cross", 0, 1, 2, 3)), is_apartness((1, 0), (0, 1), ("apart", 0, 1)), count_within((1, 2, 3, 0)), count_by_steps((1, 2, 3, 0))]
+[True, True, 14, (1, 6, 6, 1)]
+>>> [deeds_within((1, 2, 0)), count_within((1, 0, 3, 2)), is_between_paper((1, 0, 2), (1, 2, 0), ("way", ((0, 1), (0, 2)))), between_paper((1, 0), (0, 1))]
+[((0, 1, 2), (0, 2, 1), (1, 0, 2), (1, 2, 0), (2, 1, 0)), 4, True, ('reason', ('apart', 0, 1))]
+"""
+
+STAGE_18 = r"""
+>>> round_four = (1, 2, 3, 0)
+>>> [meet(round_four, (1, 2, 0, 3), (0, 2, 3, 1)), join(round_four, (2, 1, 0, 3), (0, 3, 2, 1)), meet(round_four, (2, 1, 0, 3), (0, 3, 2, 1)), join(round_four, (1, 0, 2, 3), (0, 1, 3, 2))]
+[(0, 2, 1, 3), (1, 2, 3, 0), (0, 1, 2, 3), (1, 0, 3, 2)]
+>>> [mate_behind((1, 2, 0), (1, 0, 2)), mate_ahead((1, 2, 0), (1, 0, 2)), mate_behind((1, 2, 0), mate_behind((1, 2, 0), (1, 0, 2))), count_rises((1, 2, 0), 2)]
+[(2, 1, 0), (0, 2, 1), (0, 2, 1), 12]
+>>> [chain_of((1, 2, 0), ((0, 1), (0, 2))), exchanges_between((1, 2, 0), ((0, 1, 2), (2, 1, 0), (1, 2, 0))), balance((1, 2, 0), (0, 1, 2)), balance((1, 2, 0), (1, 0, 2))]
+[((0, 1, 2), (1, 0, 2), (1, 2, 0)), ((0, 2), (1, 2)), 2, -1]
+>>> [rises((1, 0), 1), count_rises((1, 2, 3, 4, 5, 0), 1), count_rises((0, 1, 2), 20), is_rise((1, 2, 0), ((1, 0, 2), (1, 0, 2)))]
+[(((0, 1),), ((1, 0),)), 132, 1, True]
+"""
+
+STAGE_19 = r"""
+>>> [count_shares((1, 2, 0), 2), count_shares((1, 2, 0), 3), count_shares((1, 0, 3, 2), 2), all_shares((1, 0), 2), share_behind((1, 2, 0), ((1, 0, 2),))]
+[5, 12, 4, (((0, 1), (1, 0)), ((1, 0), (0, 1))), (2, 1, 0)]
+>>> [is_shares((1, 2, 0), ((1, 0, 2), (2, 1, 0))), is_shares((0, 1), ((1, 0), (1, 0))), shares_passed((1, 2, 0), ((1, 0, 2), (2, 1, 0)), 0, "on")]
+[True, False, ((2, 1, 0), (0, 2, 1))]
+>>> [count_kinds(((1, 2), (1, 2))), count_kinds(((1, 1, 2), (1, 3))), count_kinds(((1, 1, 2), (2, 2))), count_kinds(((3,), (3,)))]
+[3, 4, 2, 0]
+>>> [shares_of(Row(3, ((0, 1, "a"), (0, 2, "b"))), (1,)), shares_of(TRIO, (0, 2)), row_of_shares((0, 1), ((0, 1),)) == (Row(2), ())]
+[((1, 0, 2), (2, 1, 0)), ((0, 1, 2), (2, 0, 1), (0, 1, 2)), True]
+>>> share_behind((1, 2, 0), ((0, 1, 2), (2, 0, 1)))
+raises NoWay
+"""
+
 # For each stage its examples, how many lines of input they have, and the modules whose names they use.
 EXAMPLES = (
     (STAGE_1, 2, ("renamedown.errors", "renamedown.base.words")),
@@ -179,6 +221,10 @@ EXAMPLES = (
     (STAGE_14, 3, ("renamedown.rows.rows", "renamedown.rows.names")),
     (STAGE_15, 5, ("renamedown.use.desk",)),
     (STAGE_16, 2, ("renamedown.rows.rows", "renamedown.text.texts")),
+    (SHELL, 3, ("renamedown.use.desk", "renamedown.text.shell")),
+    (STAGE_17, 3, ("renamedown.count.between",)),
+    (STAGE_18, 5, ("renamedown.count.lattice",)),
+    (STAGE_19, 5, ("renamedown.rows.rows", "renamedown.count.shares")),
 )
 
 INTERFACE = {
@@ -342,6 +388,40 @@ INTERFACE = {
         "write_paper(paper)",
         "read_paper(text)",
     ),
+    "renamedown.count.between": (
+        "rest_of(inner, whole)",
+        "lies_in(inner, whole)",
+        "any_apartness(inner, whole)",
+        "is_apartness(inner, whole, value)",
+        "between_paper(inner, whole)",
+        "is_between_paper(inner, whole, value)",
+        "count_within(whole)",
+        "count_by_steps(whole)",
+        "deeds_within(whole)",
+    ),
+    "renamedown.count.lattice": (
+        "meet(whole, one, other)",
+        "join(whole, one, other)",
+        "mate_behind(whole, inner)",
+        "mate_ahead(whole, inner)",
+        "is_rise(whole, value)",
+        "count_rises(whole, length)",
+        "rises(whole, length)",
+        "is_full_chain(whole, value)",
+        "chain_of(whole, exchanges)",
+        "exchanges_between(whole, chain)",
+        "balance(whole, inner)",
+    ),
+    "renamedown.count.shares": (
+        "is_shares(whole, value)",
+        "count_shares(whole, many)",
+        "all_shares(whole, many)",
+        "share_behind(whole, first)",
+        "shares_passed(whole, shares, index, way)",
+        "shares_of(row, cuts)",
+        "row_of_shares(whole, shares)",
+        "count_kinds(kinds)",
+    ),
 }
 
 CONSTANTS = {
@@ -353,6 +433,9 @@ CONSTANTS = {
     "renamedown.count.classes": {"MAX_CLASS": 5000},
     "renamedown.count.least": {"MAX_LEAST": 5000, "MAX_TREES": 7},
     "renamedown.count.codes": {"MAX_CODES": 7},
+    "renamedown.count.between": {"MAX_WITHIN": 5000},
+    "renamedown.count.lattice": {"MAX_RISES": 5000, "MAX_LENGTH": 20},
+    "renamedown.count.shares": {"MAX_SHARES": 5000},
 }
 
 ROW = {
@@ -370,6 +453,8 @@ DESK = {
     "is_reached": "(self, value)", "undo": "(self, *, many=1)", "twin": "(self)", "trial": "(self)",
     "during": "(self, call)", "__len__": "(self)", "__iter__": "(self)", "__eq__": "(self, other)", "__str__": "(self)",
 }
+
+SHELL_METHODS = {"__init__": "(self, desk)", "desk": "(self)", "__str__": "(self)"}
 
 
 class ExamplesTest(unittest.TestCase):
@@ -421,6 +506,7 @@ class InterfaceTest(unittest.TestCase):
         self.assertEqual(str(inspect.signature(row.from_lines)), "(places, lines)")
         self.check_class("renamedown.use.desk", "Desk", DESK, ("row", "locks", "wish", "free_moves", "changes"),
                          ("__getitem__", "__contains__"))
+        self.check_class("renamedown.text.shell", "Shell", SHELL_METHODS, (), ("__call__",))
 
 
 if __name__ == "__main__":

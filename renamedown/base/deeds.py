@@ -45,6 +45,14 @@ def exchange_deed(places, exchange):
     return tuple([place_behind(place, exchange) for place in range(places)])
 
 
+def deed_of_exchanges(places, exchanges):
+    """The deed of exchanges, known to be such, that are done one after the other."""
+    ends = list(range(places))
+    for exchange in exchanges:
+        ends = [place_behind(place, exchange) for place in ends]
+    return tuple(ends)
+
+
 def _ring_from(deed, place):
     """The places through which the thing at this place goes, up to its return."""
     ring = [place]

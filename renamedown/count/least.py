@@ -2,8 +2,9 @@
 
 from math import factorial
 
-from renamedown.base.deeds import behind, check_deed, exchange_deed, least_steps, ring_lengths, rings_of
-from renamedown.base.words import MAX_PLACES, is_below, is_exchange, is_owner, place_behind
+from renamedown.base.deeds import behind, check_deed, deed_of_exchanges, exchange_deed, least_steps, ring_lengths
+from renamedown.base.deeds import rings_of
+from renamedown.base.words import MAX_PLACES, is_below, is_exchange, is_owner
 from renamedown.errors import InvalidOperation, TooMany
 from renamedown.moves.plain import singles_of
 from renamedown.rows.rows import Row
@@ -25,10 +26,7 @@ def is_least(deed, value):
     check_deed(deed)
     if not _are_exchanges(len(deed), least_steps(deed), value):
         return False
-    ends = list(range(len(deed)))
-    for exchange in value:
-        ends = [place_behind(place, exchange) for place in ends]
-    return ends == list(deed)
+    return deed_of_exchanges(len(deed), value) == deed
 
 
 def count_least(deed):

@@ -149,7 +149,7 @@ def handles_in(lengths, steps):
     return handles_from(sum(lengths), len(lengths), steps)
 
 
-def _power(base, many):
+def power(base, many):
     """The product of so many times the base."""
     product = 1
     for _ in range(many):
@@ -161,10 +161,10 @@ def count_flat(lengths):
     """How many joined tuples of as few exchanges as possible have a told deed with these ring lengths."""
     _check_lengths(lengths)
     places, rings = sum(lengths), len(lengths)
-    above = factorial(places + rings - 2) * _power(places, rings)
+    above = factorial(places + rings - 2) * power(places, rings)
     below = places ** 3
     for length in lengths:
-        above = above * _power(length, length)
+        above = above * power(length, length)
         below = below * factorial(length - 1)
     return above // below
 

@@ -28,15 +28,8 @@ def kind_of(row):
     return tuple([triple for triple, _ in _parts_of(row)])
 
 
-def _check_two(one, other):
-    """Raise InvalidRow unless both are rows."""
-    check_row(one)
-    check_row(other)
-
-
 def are_alike(one, other):
     """Whether the one row, with some names of its places, leads to the other one."""
-    _check_two(one, other)
     # The kind tells the number of places, too.
     return kind_of(one) == kind_of(other)
 
@@ -59,8 +52,9 @@ def any_likeness(one, other):
 
 def is_likeness(one, other, value):
     """Whether the value is a tuple of names with which the one row leads to the other one."""
-    _check_two(one, other)
-    if not is_deed(value) or len(value) != one.places or one.places != other.places:
+    check_row(one)
+    check_row(other)
+    if not is_deed(value) or len(value) != one.places:
         return False
     return sign_of(one.renamed(value)) == sign_of(other)
 
