@@ -158,6 +158,28 @@ class DistanceTest(Case):
                     self.assertIs(is_shortest_way(row, other, way), True)
                     self.assertIs(is_shortest_way(row, other, None), False)
 
+    def test_large_classes_by_force(self):
+        random = Random(104)
+        sparse = Row(12, ((0, 7, "a"), (2, 11, "b"), (0, 9, "c"), (2, 11, "b"), (7, 9, "z")))
+        for row in (BELOW, SIX, sparse, Row(2, tuple((0, 1, letter) for letter in "aabbbccc"))):
+            found = distances(row)
+            self.assertEqual(farthest(row), max(found.values()))
+            told = class_rows(row)
+            self.assertEqual([other.steps for other in told], sorted(found))
+            for other in random.sample(told, 25):
+                way = shortest_way(row, other)
+                self.assertEqual((len(way), walked(row, way)), (found[other.steps], other))
+                self.assertEqual((distance(row, other), place_in_class(other)), (len(way), told.index(other)))
+                self.assertIs(is_shortest_way(row, other, way), True)
+                self.assertIs(is_shortest_way(row, other, way + ((0, "on"), (0, "back"))), False)
+
+    def test_ways_that_are_not_shortest(self):
+        for many in (6, 4998, 5004, 199998):
+            self.assertIs(is_shortest_way(LOOP, LOOP, ((0, "on"),) * many), False)
+            self.assertIs(is_shortest_way(LOOP, pass_on(LOOP, 1), ((0, "on"),) * many + ((1, "on"),)), False)
+        self.assertIs(is_shortest_way(LOOP, pass_on(LOOP, 1), ((1, "on"),)), True)
+        self.assertIs(is_shortest_way(LOOP, pass_on(LOOP, 1), ((1, "back"),) * 5), False)
+
     def test_no_way(self):
         for one, other in ((TRIO, TRIO.backwards()), (TWINS, APART), (TRIO, TRIO.wider(4)), (Row(1), Row(2)),
                            (LOOP, TRIO), (Row(3), TRIO), (BELOW, ABOVE)):

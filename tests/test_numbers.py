@@ -1,5 +1,6 @@
 """Numbers of tuples of exchanges [9.1] to [9.3]."""
 
+from functools import cache
 from itertools import product
 from math import comb, factorial
 from time import perf_counter
@@ -119,8 +120,8 @@ class CountTest(Case):
                 self.assertEqual(whole, comb(places, 2) ** steps)
 
     def test_cuts_lead_from_one_number_of_steps_to_the_next(self):
-        for lengths in all_lengths(6) + ((1, 2, 3, 6), (12,)):
-            for steps in (1, 4, 7, 24):
+        for lengths in all_lengths(6) + all_lengths(9) + all_lengths(12)[::3]:
+            for steps in (1, 4, 7, 12, 23, 24):
                 before = sum(many * count_all(other, steps - 1) for other, many in cuts_of(lengths).items())
                 self.assertEqual(count_all(lengths, steps), before)
 
@@ -134,6 +135,28 @@ class CountTest(Case):
                         if sum(shares) == steps:
                             whole += count_parted(tuple(zip(parts, shares)))
                 self.assertEqual(whole, count_all(lengths, steps))
+
+    def test_joined_tuples_of_all_lengths_and_steps(self):
+        joined, every = cache(count_joined), cache(count_all)
+        for places in range(1, 13):
+            for lengths in all_lengths(places):
+                for steps in range(25) if places < 9 else (11, 22, 23, 24):
+                    # Of all tuples each one joins some rings to the first one, and does something with the others.
+                    whole = 0
+                    for chosen in product((False, True), repeat=len(lengths) - 1):
+                        part = lengths[:1] + tuple(length for length, taken in zip(lengths[1:], chosen) if taken)
+                        left = tuple(length for length, taken in zip(lengths[1:], chosen) if not taken)
+                        for own in range(steps + 1) if left else (steps,):
+                            number = joined(part, own)
+                            whole += number and comb(steps, own) * number * (every(left, steps - own) if left else 1)
+                    self.assertEqual(every(lengths, steps), whole, (lengths, steps))
+
+    def test_formulas_for_few_handles(self):
+        for places in range(2, 13):
+            for lengths in all_lengths(places):
+                for handles in (0, 1):
+                    counted = numbers._count_with_handles(lengths, handles)
+                    self.assertEqual(count_joined(lengths, places + len(lengths) - 2 + 2 * handles), counted)
 
     def test_no_steps(self):
         for places in range(1, 13):

@@ -192,7 +192,8 @@ class ReasonTest(Case):
         for value in (("deed", 1), ("deed", 0), ("joined", 0, 1), ("owner", 1, "a")):
             self.assertIs(is_reason(one, other, value), True)
         for value in (("deed", True), ("deed", False), ("joined", 0, True), ("joined", False, 1), ("owner", True, "a"),
-                      ("owner", 1, ("a",)), ["deed", 1], ("deed", 1, 1), ("deed",), ("reason", ("deed", 1))):
+                      ("Owner", 1, "a"), ("owner", 1), ("owner", 1, "a", "a"), ("owner", 1, "A"), (None, 1, "a"), ("joined", 0),
+                      ("joined", 0, 1, 1), ("joined", 1, 0), ("Deed", 1), ("owner", 1, ("a",)), ["deed", 1], ("deed", 1, 1), ("deed",), ("reason", ("deed", 1))):
             self.assertIs(is_reason(one, other, value), False)
             self.assertIs(is_way_paper(one, other, ("reason", value)), False)
 

@@ -47,10 +47,10 @@ def exchange_deed(places, exchange):
 
 def deed_of_exchanges(places, exchanges):
     """The deed of exchanges, known to be such, that are done one after the other."""
-    ends = list(range(places))
-    for exchange in exchanges:
-        ends = [place_behind(place, exchange) for place in ends]
-    return tuple(ends)
+    things = list(range(places))
+    for first, second in exchanges:
+        things[first], things[second] = things[second], things[first]
+    return tuple([things.index(place) for place in range(places)])
 
 
 def _ring_from(deed, place):
@@ -64,8 +64,13 @@ def _ring_from(deed, place):
 def rings_of(deed):
     """The rings of a deed, each one from its least place on."""
     check_deed(deed)
-    rings = [_ring_from(deed, place) for place in range(len(deed))]
-    return tuple([ring for ring in rings if ring[0] == min(ring)])
+    rings, left = [], list(range(len(deed)))
+    for place in range(len(deed)):
+        if left[place] is not None:
+            rings.append(_ring_from(deed, place))
+            for stop in rings[-1]:
+                left[stop] = None
+    return tuple(rings)
 
 
 def ring_lengths(deed):

@@ -182,7 +182,7 @@ def deeds_within(whole):
     if count_within(whole) > MAX_WITHIN:
         raise TooMany(MAX_WITHIN)
     rings = rings_of(whole)
-    targets = _targets(max([len(ring) for ring in rings]))
+    targets = _targets(max([len(part) for part in rings]))
     deeds = [whole]
     for ring in rings:
         deeds = [_with_ring(deed, ring, part) for deed in deeds for part in targets[len(ring)]]

@@ -18,7 +18,7 @@ def _check_within(whole, deeds):
     check_deed(whole)
     for deed in deeds:
         check_deed(deed)
-    if not all([lies_in(deed, whole) for deed in deeds]):
+    if not all([lies_in(inner, whole) for inner in deeds]):
         raise InvalidOperation("a deed does not lie in the whole")
 
 

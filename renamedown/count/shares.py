@@ -63,9 +63,9 @@ def all_shares(whole, many):
     known = {}
     begun = [((), whole)]
     for _ in range(many - 1):
-        for left in sorted(set([pair[1] for pair in begun])):
-            if left not in known:
-                known[left] = _begins(left)
+        for missing in sorted(set([pair[1] for pair in begun])):
+            if missing not in known:
+                known[missing] = _begins(missing)
         begun = [(part + (deed,), rest) for part, left in begun for deed, rest in known[left]]
     return tuple([part + (left,) for part, left in begun])
 
@@ -133,7 +133,7 @@ def count_kinds(kinds):
     if not _are_kinds(kinds):
         raise InvalidOperation("these are no ring lengths with one sum")
     places = sum(kinds[0])
-    if sum([places - len(lengths) for lengths in kinds]) != places - 1:
+    if sum([places - len(kind) for kind in kinds]) != places - 1:
         return 0
     above, below = power(places, len(kinds) - 1), 1
     for lengths in kinds:

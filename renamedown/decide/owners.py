@@ -5,15 +5,20 @@ from math import factorial
 from renamedown.base.words import check_number
 from renamedown.errors import InvalidOperation
 from renamedown.moves.owning import put_owners
-from renamedown.moves.plain import sign_of
 from renamedown.moves.trails import Trail
-from renamedown.rows.rows import check_row
-from renamedown.rows.webs import group_of, groups_of, steps_in
+from renamedown.rows.rows import check_owners, check_row
+from renamedown.rows.webs import group_of, groups_by_place, groups_of, steps_in
 
 
 def _step_groups(row):
     """The groups to which the single steps belong."""
-    return [group_of(row, step[0]) for step in row.steps]
+    groups = groups_by_place(row)
+    return [groups[step[0]] for step in row.steps]
+
+
+def _owners_of(row):
+    """The owners of the single steps."""
+    return [step[2] for step in row.steps]
 
 
 def _letters_by_group(groups, letters):
@@ -26,13 +31,15 @@ def _letters_by_group(groups, letters):
 
 def _letters_of(row):
     """The dict from the groups that have steps to their owners, in alphabetical order."""
-    return _letters_by_group(_step_groups(row), [step[2] for step in row.steps])
+    return _letters_by_group(_step_groups(row), _owners_of(row))
 
 
 def do_fit(row, owners):
     """Whether the row leads to the row with the same exchanges and these owners."""
     check_row(row)
-    return sign_of(row.owned(owners)) == sign_of(row)
+    check_owners(row, owners)
+    groups = _step_groups(row)
+    return _letters_by_group(groups, owners) == _letters_by_group(groups, _owners_of(row))
 
 
 def _check_fit(row, owners):
@@ -50,7 +57,7 @@ def _in_order(groups, letters):
 def least_owners(row):
     """The least string that fits."""
     check_row(row)
-    return _in_order(_step_groups(row), [step[2] for step in row.steps])
+    return _in_order(_step_groups(row), _owners_of(row))
 
 
 def moves_to_owners(row, owners):
@@ -71,7 +78,7 @@ def exchange_owners(row, one, other):
     check_number(other, 0, len(row) - 1)
     if group_of(row, row.steps[one][0]) != group_of(row, row.steps[other][0]):
         raise InvalidOperation("the steps belong to different groups")
-    owners = [step[2] for step in row.steps]
+    owners = _owners_of(row)
     owners[one], owners[other] = owners[other], owners[one]
     return moves_to_owners(row, "".join(owners))
 
@@ -84,13 +91,18 @@ def _orders_of(letters):
     return many
 
 
+def _orders_in(parts):
+    """How many strings have these letters in each group."""
+    many = 1
+    for letters in parts.values():
+        many = many * _orders_of(letters)
+    return many
+
+
 def count_owners(row):
     """How many strings fit."""
     check_row(row)
-    many = 1
-    for letters in _letters_of(row).values():
-        many = many * _orders_of(letters)
-    return many
+    return _orders_in(_letters_of(row))
 
 
 def _next_owners(groups, owners):
@@ -127,13 +139,15 @@ def _count_with(total, letters, letter):
 
 def owners_at(row, index):
     """The string with an index among all that fit, ascending."""
-    total = count_owners(row)
+    check_row(row)
+    groups = _step_groups(row)
+    left = _letters_by_group(groups, _owners_of(row))
+    total = _orders_in(left)
     check_number(index, 0, total - 1)
-    left = _letters_of(row)
     rest, owners = index, []
-    for group in _step_groups(row):
+    for group in groups:
         letters = left[group]
-        letter = max([one for one in letters if _count_ahead(total, letters, one) <= rest])
+        letter = max([one for one in sorted(set(letters)) if _count_ahead(total, letters, one) <= rest])
         rest = rest - _count_ahead(total, letters, letter)
         total = _count_with(total, letters, letter)
         letters.remove(letter)
@@ -143,10 +157,14 @@ def owners_at(row, index):
 
 def index_of_owners(row, owners):
     """The index of a string among all that fit, ascending."""
-    _check_fit(row, owners)
-    left = _letters_of(row)
-    index, total = 0, count_owners(row)
-    for group, letter in zip(_step_groups(row), owners):
+    check_row(row)
+    check_owners(row, owners)
+    groups = _step_groups(row)
+    left = _letters_by_group(groups, owners)
+    if left != _letters_by_group(groups, _owners_of(row)):
+        raise InvalidOperation("the owners do not fit the row")
+    index, total = 0, _orders_in(left)
+    for group, letter in zip(groups, owners):
         letters = left[group]
         index = index + _count_ahead(total, letters, letter)
         total = _count_with(total, letters, letter)

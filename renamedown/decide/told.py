@@ -1,12 +1,12 @@
 """Told rows: rows with a told deed and told groups and owners, or a reason why there are none."""
 
 from renamedown.base.deeds import behind, check_deed, exchange_deed, rings_of
-from renamedown.base.words import MAX_STEPS, check_number, is_among, is_integer, is_owner, is_step
+from renamedown.base.words import MAX_STEPS, check_number, is_among, is_integer, is_owner, is_step, owners_counted
 from renamedown.errors import InvalidNumber, InvalidOperation, NoWay
 from renamedown.moves.passings import led
 from renamedown.moves.plain import are_told, plain_exchanges, plain_of
 from renamedown.rows.rows import Row
-from renamedown.rows.webs import are_groups, groups_of, owner_counts
+from renamedown.rows.webs import are_groups, groups_of, owners_in
 
 
 def _are_counts(value):
@@ -24,7 +24,7 @@ def is_wish(value):
 def wish_of(row):
     """The wish that a row fulfils."""
     groups = groups_of(row)
-    return (row.deed, groups, tuple([owner_counts(row, group) for group in groups]))
+    return (row.deed, groups, tuple([owners_counted(owners_in(row, group)) for group in groups]))
 
 
 def _check_wish(wish):

@@ -1,12 +1,12 @@
 """Whether a row leads to another one: moves by which it does, or a reason why it does not."""
 
-from renamedown.base.words import is_among
+from renamedown.base.words import is_below, is_exchange, is_owner
 from renamedown.errors import InvalidOperation, NoWay
 from renamedown.moves.making import row_passed
 from renamedown.moves.passings import all_on, is_moves, undone
 from renamedown.moves.plain import moves_to_plain, sign_of
 from renamedown.rows.rows import Row, check_row
-from renamedown.rows.webs import group_of, owner_counts
+from renamedown.rows.webs import group_of, groups_by_place, groups_of, owners_in
 
 MAX_WAY = 200000
 
@@ -54,47 +54,56 @@ def _deed_reasons(one, other):
     return [("deed", place) for place in range(one.places) if ends[place][0] != ends[place][1]]
 
 
-def _groups_by_place(row):
-    """The groups with the single places."""
-    return [group_of(row, place) for place in range(row.places)]
-
-
 def _joined_reasons(one, other):
     """The pairs of places that are in one group in exactly one of both rows, as reasons."""
-    left, right = _groups_by_place(one), _groups_by_place(other)
-    pairs = [(a, b) for a in range(one.places) for b in range(a + 1, one.places)]
-    return [("joined", a, b) for a, b in pairs if (b in left[a]) != (b in right[a])]
-
-
-def _counts_by_place(row):
-    """For each place the dict from owners to how many steps each one has in its group."""
-    return [owner_counts(row, group) for group in _groups_by_place(row)]
+    left, right = groups_by_place(one), groups_by_place(other)
+    apart = [place for place in range(one.places) if left[place] != right[place]]
+    return [("joined", a, b) for a in apart for b in apart if a < b and (b in left[a]) != (b in right[a])]
 
 
 def _owner_reasons(one, other):
-    """The places and owners with unlike numbers of steps in the groups of the place, as reasons."""
-    left, right = _counts_by_place(one), _counts_by_place(other)
-    owners = sorted(set([step[2] for step in one.steps + other.steps]))
-    pairs = [(place, owner) for place in range(one.places) for owner in owners]
-    return [("owner", x, owner) for x, owner in pairs if left[x].get(owner, 0) != right[x].get(owner, 0)]
-
-
-def _all_reasons(one, other):
-    """All reasons why the one row does not lead to the other one."""
-    return _deed_reasons(one, other) + _joined_reasons(one, other) + _owner_reasons(one, other)
+    """The owners with unlike numbers of steps in groups that both rows have, as reasons."""
+    reasons = []
+    for group in groups_of(one):
+        left, right = owners_in(one, group), owners_in(other, group)
+        owners = sorted(set(left + right))
+        reasons.extend([("owner", group[0], owner) for owner in owners if left.count(owner) != right.count(owner)])
+    return reasons
 
 
 def any_reason(one, other):
     """A reason why the one row does not lead to the other one, or None."""
     _check_two(one, other)
-    reasons = _all_reasons(one, other)
-    return reasons[0] if reasons != [] else None
+    for find in (_deed_reasons, _joined_reasons, _owner_reasons):
+        reasons = find(one, other)
+        if reasons != []:
+            return reasons[0]
+    return None
+
+
+def has_reason_form(places, value):
+    """Whether the value has the form of a reason for rows of so many places."""
+    if not isinstance(value, tuple) or len(value) not in (2, 3):
+        return False
+    if value[0] == "deed":
+        return len(value) == 2 and is_below(places, value[1])
+    if value[0] == "joined":
+        return is_exchange(places, value[1:])
+    return value[0] == "owner" and len(value) == 3 and is_below(places, value[1]) and is_owner(value[2])
 
 
 def is_reason(one, other, value):
     """Whether the value is a reason why the one row does not lead to the other one."""
     _check_two(one, other)
-    return is_among(_all_reasons(one, other), value)
+    if not has_reason_form(one.places, value):
+        return False
+    word, place = value[:2]
+    if word == "deed":
+        return one.path(place)[-1] != other.path(place)[-1]
+    left, right = group_of(one, place), group_of(other, place)
+    if word == "joined":
+        return (value[2] in left) != (value[2] in right)
+    return owners_in(one, left).count(value[2]) != owners_in(other, right).count(value[2])
 
 
 def way_paper(one, other):

@@ -8,14 +8,13 @@ from renamedown.moves.owning import put_owners
 from renamedown.moves.passings import check_pair
 from renamedown.moves.trails import Trail
 from renamedown.rows.rows import Row
-from renamedown.rows.webs import are_groups, groups_of, handles_from, steps_in
+from renamedown.rows.webs import are_groups, groups_of, handles_from, owners_in
 
 
 def sign_of(row):
     """The deed, the groups, and the owners in each group."""
     groups = groups_of(row)
-    owners = [[row.steps[index][2] for index in steps_in(row, group)] for group in groups]
-    return (row.deed, groups, tuple(["".join(sorted(letters)) for letters in owners]))
+    return (row.deed, groups, tuple(["".join(sorted(owners_in(row, group))) for group in groups]))
 
 
 def _are_group_owners(deed, group, owners):

@@ -7,7 +7,7 @@ from renamedown.base.words import MAX_STEPS, is_count, owners_counted
 from renamedown.errors import InvalidNumber, TooMany
 from renamedown.moves.plain import sign_of
 from renamedown.rows.rows import check_row
-from renamedown.rows.webs import groups_of
+from renamedown.rows.webs import groups_of, owners_in
 
 
 def _parts_of(row):
@@ -16,7 +16,7 @@ def _parts_of(row):
     parts = []
     for group in groups_of(row):
         own = [ring for ring in rings if ring[0] in group]
-        counts = owners_counted([step[2] for step in row.steps if step[0] in group])
+        counts = owners_counted(owners_in(row, group))
         lengths = tuple([len(ring) for ring in own])
         parts.append(((len(group), lengths, tuple([(owner, counts[owner]) for owner in counts])), own))
     return sorted(parts)

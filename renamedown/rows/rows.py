@@ -1,6 +1,6 @@
 """Rows: exchanges that are done one after the other, each with an owner."""
 
-from renamedown.base.deeds import is_deed
+from renamedown.base.deeds import deed_of_exchanges, is_deed
 from renamedown.base.words import MAX_PLACES, MAX_STEPS, PLACE_WORDS, check_number, check_places
 from renamedown.base.words import is_owner, is_step, owners_counted, place_behind
 from renamedown.errors import InvalidOperation, InvalidRow, ParseError, TooMany
@@ -77,7 +77,7 @@ class Row:
     @property
     def deed(self):
         """What the whole row does."""
-        return tuple([self.path(place)[-1] for place in range(self._places)])
+        return deed_of_exchanges(self._places, self.exchanges)
 
     def path(self, place):
         """The places where the thing lies that lies at this place at first."""
@@ -128,12 +128,8 @@ class Row:
 
     def owned(self, owners):
         """The row with the same exchanges, and other owners, told by a string."""
-        if not isinstance(owners, str) or len(owners) != len(self._steps):
-            raise InvalidOperation("the owners must be a string with one letter for each step")
-        if not all([is_owner(letter) for letter in owners]):
-            raise InvalidOperation("an owner must be a letter from a to z")
-        steps = [(step[0], step[1], owner) for step, owner in zip(self._steps, owners)]
-        return Row(self._places, tuple(steps))
+        check_owners(self, owners)
+        return self.with_all(tuple([(step[0], step[1], owner) for step, owner in zip(self._steps, owners)]))
 
     def wider(self, places):
         """The row of the same steps with so many places."""
@@ -177,3 +173,9 @@ def check_row(row):
     """Raise InvalidRow unless the value is a row."""
     if not isinstance(row, Row):
         raise InvalidRow("this is no row")
+
+
+def check_owners(row, owners):
+    """Raise InvalidOperation unless the value is a string with one letter for each step of the row."""
+    if not isinstance(owners, str) or len(owners) != len(row) or not all([is_owner(letter) for letter in owners]):
+        raise InvalidOperation("the owners must be a string with one letter from a to z for each step")

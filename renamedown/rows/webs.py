@@ -11,9 +11,12 @@ def groups_joined(places, exchanges):
     marks = list(range(places))
     for first, second in exchanges:
         kept, lost = marks[first], marks[second]
-        marks = [kept if mark == lost else mark for mark in marks]
-    groups = [[place for place in range(places) if marks[place] == mark] for mark in sorted(set(marks))]
-    return tuple(sorted([tuple(group) for group in groups]))
+        if kept != lost:
+            marks = [kept if mark == lost else mark for mark in marks]
+    groups = {}
+    for place, mark in enumerate(marks):
+        groups.setdefault(mark, []).append(place)
+    return tuple([tuple(group) for group in groups.values()])
 
 
 def are_groups(places, value):
@@ -38,6 +41,17 @@ def groups_of(row):
     """The groups of the row."""
     check_row(row)
     return groups_joined(row.places, row.exchanges)
+
+
+def groups_by_place(row):
+    """For each place the group with it, where the row is known to be one."""
+    own = {place: group for group in groups_joined(row.places, row.exchanges) for place in group}
+    return [own[place] for place in range(row.places)]
+
+
+def owners_in(row, group):
+    """The owners of the steps in a group, in their order, where both are known to be such."""
+    return [step[2] for step in row.steps if step[0] in group]
 
 
 def group_of(row, place):
@@ -70,7 +84,8 @@ def steps_in(row, group):
 
 def owner_counts(row, group):
     """The dict from the owners to how many steps of the group each one has."""
-    return owners_counted([row.steps[index][2] for index in steps_in(row, group)])
+    _check_group(row, group)
+    return owners_counted(owners_in(row, group))
 
 
 def rings_in(row, group):

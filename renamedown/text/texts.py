@@ -1,6 +1,7 @@
 """Texts of rows, moves and papers."""
 
-from renamedown.base.words import MAX_PLACES, MAX_STEPS, PLACE_WORDS, is_below, is_exchange, is_owner
+from renamedown.base.words import MAX_PLACES, MAX_STEPS, PLACE_WORDS
+from renamedown.decide.ways import has_reason_form
 from renamedown.errors import InvalidMoves, InvalidPaper, ParseError
 from renamedown.moves.making import found_for
 from renamedown.moves.passings import MAX_MOVES, are_moves, check_moves, every_move
@@ -23,7 +24,7 @@ def write_row(row):
 def read_row(text):
     """The row with a text."""
     lines = _lines_of(text)
-    heads = [f"{places} places" for places in range(1, MAX_PLACES + 1)]
+    heads = [f"{many} places" for many in range(1, MAX_PLACES + 1)]
     if lines[0] not in heads:
         raise ParseError(0)
     places = heads.index(lines[0]) + 1
@@ -63,17 +64,6 @@ def read_moves(text):
     return _moves_of_lines(_lines_of(text), 0)
 
 
-def _is_reason(value):
-    """Whether the value is a reason of some rows why the one does not lead to the other one."""
-    if not isinstance(value, tuple) or len(value) not in (2, 3):
-        return False
-    if value[0] == "deed":
-        return len(value) == 2 and is_below(MAX_PLACES, value[1])
-    if value[0] == "joined":
-        return is_exchange(MAX_PLACES, value[1:])
-    return value[0] == "owner" and len(value) == 3 and is_below(MAX_PLACES, value[1]) and is_owner(value[2])
-
-
 def write_paper(paper):
     """The text of a way paper."""
     if not isinstance(paper, tuple) or len(paper) != 2:
@@ -81,7 +71,7 @@ def write_paper(paper):
     word, told = paper
     if word == "moves" and are_moves(told, MAX_STEPS - 2):
         return "moves\n" + _text_of_moves(told)
-    if word == "reason" and _is_reason(told):
+    if word == "reason" and has_reason_form(MAX_PLACES, told):
         return " ".join(["reason"] + [str(part) for part in told])
     raise InvalidPaper("this is no paper of moves or of a reason")
 
@@ -89,7 +79,7 @@ def write_paper(paper):
 def _reason_of(words):
     """The reason that these words tell, or None."""
     parts = [PLACE_WORDS.index(word) if word in PLACE_WORDS else word for word in words]
-    return tuple(parts) if _is_reason(tuple(parts)) else None
+    return tuple(parts) if has_reason_form(MAX_PLACES, tuple(parts)) else None
 
 
 def read_paper(text):
