@@ -164,8 +164,9 @@ def _targets(longest):
     targets = [[()]]
     for length in range(1, longest + 1):
         # The first place goes to itself, or to the first place of the rest.
-        targets.append([_grown(inner, rest) for at in range(length)
-                        for inner in targets[at] for rest in targets[length - 1 - at]])
+        grown = [_grown(inner, rest) for at in range(length)
+                 for inner in targets[at] for rest in targets[length - 1 - at]]
+        targets.append(grown)
     return targets
 
 

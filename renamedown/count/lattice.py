@@ -23,9 +23,13 @@ def _check_within(whole, deeds):
 
 
 def _met(one, other):
-    """The deed with the common places of each two rings of both, which lie in one whole."""
-    common = [tuple([place for place in ring if place in part]) for ring in rings_of(one) for part in rings_of(other)]
-    return deed_of_rings(len(one), tuple([ring for ring in common if ring != ()]))
+    """The deed whose rings have the places that are in one ring of both deeds, which lie in one whole."""
+    heads = {place: ring[0] for ring in rings_of(other) for place in ring}
+    parts = {}
+    for ring in rings_of(one):
+        for place in ring:
+            parts.setdefault((ring[0], heads[place]), []).append(place)
+    return deed_of_rings(len(one), tuple([tuple(part) for part in parts.values()]))
 
 
 def meet(whole, one, other):
@@ -37,8 +41,8 @@ def meet(whole, one, other):
 def join(whole, one, other):
     """The least deed in the whole in which both lie."""
     _check_within(whole, (one, other))
-    # Mates exchange meets and joins.
-    return mate_ahead(whole, _met(rest_of(one, whole), rest_of(other, whole)))
+    # Mates exchange meets and joins, so this is the mate ahead of the meet of the mates behind.
+    return behind(whole, back_of(_met(rest_of(one, whole), rest_of(other, whole))))
 
 
 def mate_behind(whole, inner):

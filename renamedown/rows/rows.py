@@ -103,28 +103,28 @@ class Row:
             raise InvalidOperation("this is no step of so many places")
         if len(self._steps) == MAX_STEPS:
             raise TooMany(MAX_STEPS)
-        return Row(self._places, self._steps[:index] + (step,) + self._steps[index:])
+        return self.with_all(self._steps[:index] + (step,) + self._steps[index:])
 
     def without_step(self, index):
         """The row without the step with this index."""
         check_number(index, 0, len(self._steps) - 1)
-        return Row(self._places, self._steps[:index] + self._steps[index + 1:])
+        return self.with_all(self._steps[:index] + self._steps[index + 1:])
 
     def part(self, first, last):
         """The row of the steps from the first index on and below the last one."""
         check_number(first, 0, len(self._steps))
         check_number(last, first, len(self._steps))
-        return Row(self._places, self._steps[first:last])
+        return self.with_all(self._steps[first:last])
 
     def backwards(self):
         """The row with the last step first."""
-        return Row(self._places, self._steps[::-1])
+        return self.with_all(self._steps[::-1])
 
     def renamed(self, names):
         """The row in which each place x is names[x]."""
         if not is_deed(names) or len(names) != self._places:
             raise InvalidOperation("the names must be a tuple with each place once")
-        return Row(self._places, tuple([_step_named(step, names) for step in self._steps]))
+        return self.with_all(tuple([_step_named(step, names) for step in self._steps]))
 
     def owned(self, owners):
         """The row with the same exchanges, and other owners, told by a string."""
