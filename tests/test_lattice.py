@@ -128,6 +128,10 @@ class LatticeTest(Case):
                     self.told(InvalidOperation, call, *right[:at], wrong, *right[at + 1:])
             self.told(InvalidOperation, call, (1, 0, 2), *right[1:-1], (0, 2, 1))
             self.told(InvalidOperation, call, (1, 0), *right[1:])
+        for call in (meet, join):
+            for value in NO_DEEDS:
+                for wrong in ((2, 0, 1), (0, 1), (0,)):
+                    self.told(InvalidDeed, call, (1, 2, 0), wrong, value)
 
 
 class RisesTest(Case):
