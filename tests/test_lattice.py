@@ -176,7 +176,10 @@ class RisesTest(Case):
     def test_5000_and_more(self):
         self.assertEqual([count_rises(ROUND[9], 1), len(rises(ROUND[9], 1))], [4862, 4862])
         self.assertEqual([count_rises(ROUND[6], 2), len(rises(ROUND[6], 2))], [1428, 1428])
-        for whole, length in ((ROUND[10], 1), (ROUND[7], 2), (ROUND[4], 20), (in_rings((2, 2, 2)), 20), (ROUND[12], 3)):
+        # No number of rises is nearer to 5000 than 4950 and 5184.
+        self.assertEqual(len(set(rises(in_rings((2, 3)), 14))), 4950)
+        self.assertEqual(count_rises(in_rings((2, 3, 3, 3)), 2), 5184)
+        for whole, length in ((in_rings((2, 3, 3, 3)), 2), (ROUND[10], 1), (ROUND[7], 2), (ROUND[4], 20), (in_rings((2, 2, 2)), 20), (ROUND[12], 3)):
             self.assertGreater(count_rises(whole, length), 5000)
             self.assertEqual(self.told(TooMany, rises, whole, length).limit, 5000)
 

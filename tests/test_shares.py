@@ -100,11 +100,12 @@ class SharesTest(Case):
 
     def test_5000_and_more(self):
         begin = perf_counter()
-        for whole, many in ((ROUND[9], 2), (ROUND[5], 5), (ROUND[4], 12), (in_rings((3, 4)), 4)):
+        # No number of shares is nearer to 5000 than 4950 and 5184.
+        for whole, many in ((in_rings((2, 3)), 15), (ROUND[9], 2), (ROUND[5], 5), (ROUND[4], 12), (in_rings((3, 4)), 4)):
             told = all_shares(whole, many)
             self.assertEqual((len(told), len(set(told)), list(told)), (count_shares(whole, many),) * 2 + (sorted(told),))
             self.assertTrue(all(is_shares(whole, deeds) for deeds in told[::101]))
-        for whole, many in ((ROUND[10], 2), (ROUND[12], 24), (ROUND[5], 7), (in_rings((2, 2, 2)), 24)):
+        for whole, many in ((in_rings((2, 3, 3, 3)), 3), (ROUND[10], 2), (ROUND[12], 24), (ROUND[5], 7), (in_rings((2, 2, 2)), 24)):
             self.assertGreater(count_shares(whole, many), 5000)
             self.assertEqual(self.told(TooMany, all_shares, whole, many).limit, 5000)
         self.assertLess(perf_counter() - begin, 6)
