@@ -79,7 +79,7 @@ class Model:
             self.steps = [[*step, False] for step in plain_row(self.show()[0]).steps]
             return
         step = self.steps[index]
-        if step[3] and (name == "take" or (name == "own" and owner != step[2])):
+        if step[3] and name in ("take", "own"):
             raise Locked(tuple(step[:3]))
         if name == "take":
             self.steps.pop(index)
@@ -336,9 +336,24 @@ class StepsTest(Case):
 
     def test_own_with_the_owner_that_a_step_has(self):
         desk = locked_desk(LOOP, (1,))
-        self.assertIsNone(desk.own(1, "b"))
         self.assertIsNone(desk.own(0, "a"))
-        self.assertEqual(shown(desk), (LOOP, (1,), 3))
+        self.assertEqual(shown(desk), (LOOP, (1,), 2))
+        self.assertEqual(self.told(Locked, desk.own, 1, "b").step, (1, 2, "b"))
+        self.assertEqual(shown(desk), (LOOP, (1,), 2))
+        desk.unlock(1)
+        self.assertIsNone(desk.own(1, "b"))
+        self.assertEqual(shown(desk), (LOOP, (), 4))
+        one = locked_desk(Row(2, ((0, 1, "a"),)), (0,))
+        self.assertEqual(self.told(Locked, one.own, 0, "a").step, (0, 1, "a"))
+        self.assertEqual(shown(one), (Row(2, ((0, 1, "a"),)), (0,), 1))
+
+    def test_own_of_a_locked_step_by_force(self):
+        for row in SAMPLES:
+            for index in range(len(row)):
+                desk = locked_desk(row, (index,))
+                for owner in "abcdefghijklmnopqrstuvwxyz":
+                    self.assertEqual(self.told(Locked, desk.own, index, owner).step, row[index])
+                self.assertEqual(shown(desk), (row, (index,), 1))
 
     def test_wrong_owners(self):
         desk = locked_desk(LOOP, (1,))

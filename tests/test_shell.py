@@ -159,7 +159,7 @@ class CommandsTest(ShellCase):
     def test_locked(self):
         shell = Shell(locked_desk(LOOP, (1, 3)))
         for command, step in (("on 1", "1 2 b"), ("back 0", "1 2 b"), ("lead 0 3", "1 2 b"), ("take 3", "0 3 b"),
-                              ("own 1 a", "1 2 b"), ("plain", "1 2 b"), ("back 2", "0 3 b")):
+                              ("own 1 a", "1 2 b"), ("own 1 b", "1 2 b"), ("own 3 b", "0 3 b"), ("plain", "1 2 b"), ("back 2", "0 3 b")):
             self.check_refused(shell, command, f"locked {step}")
         wide = Shell(locked_desk(Row(12, ((10, 11, "q"),)), (0,)))
         self.check_refused(wide, "take 0", "locked 10 11 q")

@@ -116,10 +116,10 @@ class Desk:
         self._check_index(index)
         if not is_owner(owner):
             raise InvalidOperation("an owner must be a letter from a to z")
-        first, second, before = self.row[index]
-        # A lock bars another owner only.
-        if self._stand.marks[index] and owner != before:
+        # A lock also bars the owner that the step has.
+        if self._stand.marks[index]:
             raise Locked(self.row[index])
+        first, second = self.row[index][:2]
         steps = _with_part(self.row.steps, index, (first, second, owner))
         self._change(self.row.with_all(steps), self._stand.marks)
 
