@@ -5,8 +5,9 @@ from itertools import permutations, product
 from math import comb, factorial
 from random import Random
 from time import perf_counter
+from unittest.mock import patch
 
-from renamedown.base.deeds import behind, deed_of_rings, exchange_deed, least_steps, rest_deed, rings_of
+from renamedown.base.deeds import behind, deed_of_rings, exchange_deed, is_deed, least_steps, rest_deed, rings_of
 from renamedown.count import between
 from renamedown.count.between import any_apartness, between_paper, count_by_steps, count_within, deeds_within
 from renamedown.count.between import is_apartness, is_between_paper, lies_in, rest_of
@@ -102,6 +103,13 @@ def all_values(places):
 
 def drawn_deed(random, places):
     return tuple(random.sample(range(places), places))
+
+
+def times_judged(call, *args):
+    """How often a call judges whether something is a deed."""
+    with patch("renamedown.base.deeds.is_deed", wraps=is_deed) as judge:
+        call(*args)
+    return judge.call_count
 
 
 class BetweenCase(Case):
@@ -204,6 +212,25 @@ class ReasonTest(BetweenCase):
         self.check_all((2, 3, 0, 1, 5, 4), ROUND[6])
         self.check_all((3, 1, 2, 0, 4, 5), ROUND[6])
         self.check_all((3, 4, 2, 0, 1, 5), ROUND[6])
+
+    def test_rings_in_the_order_of_the_whole(self):
+        random, seen = Random(174), Counter()
+        for places in (6, 9, 12):
+            for many in (2, 3, 4, 5):
+                for _ in range(60):
+                    names = drawn_deed(random, places)
+                    parts = [[] for _ in range(many)]
+                    for place in range(places):
+                        random.choice(parts).append(names[place])
+                    rings = tuple(tuple(part) for part in parts if part)
+                    inner, whole = deed_of_rings(places, rings), deed_of_rings(places, (names,))
+                    self.assertIs(lies_in(inner, whole), lies_by_rings(inner, whole))
+                    self.check_reason(inner, whole)
+                    # Each ring passes its places as the whole does, so it can only be crossed.
+                    reason = any_apartness(inner, whole)
+                    seen[reason and reason[0]] += 1
+        self.assertEqual(sorted(seen, key=str), [None, "cross"])
+        self.assertGreater(min(seen.values()), 50)
 
     def test_one_place_and_deeds_at_rest(self):
         self.assertEqual([lies_in((0,), (0,)), rest_of((0,), (0,)), any_apartness((0,), (0,)), between_paper((0,), (0,))],
@@ -320,6 +347,15 @@ class NumbersTest(Case):
                 call(inner, whole)
             self.assertGreaterEqual(count_least(whole), 1)
         self.assertLess(perf_counter() - begin, 4)
+
+    def test_each_deed_is_judged_once(self):
+        whole, inner, apart = ROUND[6], (1, 0, 2, 3, 4, 5), (2, 3, 0, 1, 5, 4)
+        for call in CALLS:
+            self.assertEqual([times_judged(call, inner, whole), times_judged(call, apart, whole)], [2, 2])
+        for value in (("apart", 0, 1), ("round", 0, 1, 2), ("cross", 0, 1, 2, 3)):
+            self.assertEqual(times_judged(is_apartness, apart, whole, value), 2)
+            self.assertEqual(times_judged(is_between_paper, apart, whole, ("reason", value)), 2)
+        self.assertEqual(times_judged(is_between_paper, inner, whole, between_paper(inner, whole)), 2)
 
     def test_wrong_deeds(self):
         for value in NO_DEEDS:

@@ -15,7 +15,7 @@ from renamedown.count.lattice import mate_ahead, mate_behind, meet, rises
 from renamedown.count.least import count_least, is_least, least_tuples
 from renamedown.errors import InvalidDeed, InvalidOperation, TooMany
 from tests.common import LONGEST, STRANGE, Case
-from tests.test_between import ROUND, all_deeds, done_in_turn, drawn_deed, in_rings
+from tests.test_between import ROUND, all_deeds, done_in_turn, drawn_deed, in_rings, times_judged
 from tests.test_plain import NO_DEEDS
 
 WHOLES = [whole for places in (1, 2, 3, 4) for whole in all_deeds(places)[::2]] + [ROUND[4], ROUND[5], (4, 2, 1, 0, 3)]
@@ -115,6 +115,10 @@ class LatticeTest(Case):
             exchanges += (exchange,)
             left = behind(done_in_turn(len(whole), (exchange,)), left)
         return exchanges
+
+    def test_each_deed_is_judged_once(self):
+        for call, many in ((meet, 3), (join, 3), (mate_behind, 2), (mate_ahead, 2)):
+            self.assertEqual(times_judged(call, *((1, 2, 0), (1, 0, 2), (0, 2, 1))[:many]), many)
 
     def test_errors_and_their_order(self):
         for call, many in ((meet, 3), (join, 3), (mate_behind, 2), (mate_ahead, 2), (balance, 2)):

@@ -2,16 +2,17 @@
 
 from math import factorial, lcm
 
-from renamedown.base.words import PLACE_WORDS, check_number, check_places, is_below
+from renamedown.base.words import MAX_PLACES, PLACE_WORDS, check_number, check_places, is_below
 from renamedown.base.words import is_exchange, is_integer, is_number_of_places, place_behind
 from renamedown.errors import InvalidDeed, InvalidNumber, InvalidOperation, ParseError
 
 
 def is_deed(value):
     """Whether the value is a deed of 1 to 12 places."""
-    if not isinstance(value, tuple) or not is_number_of_places(len(value)):
+    if not isinstance(value, tuple) or not 1 <= len(value) <= MAX_PLACES:
         return False
-    return all([is_integer(place) for place in value]) and sorted(value) == list(range(len(value)))
+    # Integers alone can be sorted; if anything else is left out, too few of them are left.
+    return sorted([place for place in value if type(place) == int or is_integer(place)]) == list(range(len(value)))
 
 
 def check_deed(deed):
@@ -47,30 +48,56 @@ def exchange_deed(places, exchange):
 
 def deed_of_exchanges(places, exchanges):
     """The deed of exchanges, known to be such, that are done one after the other."""
-    things = list(range(places))
-    for first, second in exchanges:
-        things[first], things[second] = things[second], things[first]
-    return tuple([things.index(place) for place in range(places)])
+    deed = list(range(places))
+    # From the last one on: an exchange ahead of a deed exchanges where this takes the things of two places.
+    for first, second in exchanges[::-1]:
+        deed[first], deed[second] = deed[second], deed[first]
+    return tuple(deed)
 
 
-def _ring_from(deed, place):
+def ring_from(deed, place):
     """The places through which the thing at this place goes, up to its return."""
     ring = [place]
-    while deed[ring[-1]] != place:
-        ring.append(deed[ring[-1]])
+    later = deed[place]
+    while later != place:
+        ring.append(later)
+        later = deed[later]
     return tuple(ring)
+
+
+def heads_in(deed):
+    """For each place the least place of its ring, where the deed is known to be one."""
+    heads = [None] * len(deed)
+    for head in range(len(deed)):
+        place = head
+        while heads[place] is None:
+            heads[place] = head
+            place = deed[place]
+    return heads
+
+
+def rings_in(deed):
+    """The rings of a deed, known to be one, each from its least place on."""
+    rings = []
+    met = [False] * len(deed)
+    for head in range(len(deed)):
+        if not met[head]:
+            ring = ring_from(deed, head)
+            for place in ring:
+                met[place] = True
+            rings.append(ring)
+    return tuple(rings)
+
+
+def steps_in(deed):
+    """The least number of exchanges that do a deed, known to be one."""
+    return len(deed) - len(set(heads_in(deed)))
 
 
 def rings_of(deed):
     """The rings of a deed, each one from its least place on."""
     check_deed(deed)
-    rings, left = [], list(range(len(deed)))
-    for place in range(len(deed)):
-        if left[place] is not None:
-            rings.append(_ring_from(deed, place))
-            for stop in rings[-1]:
-                left[stop] = None
-    return tuple(rings)
+    return rings_in(deed)
 
 
 def ring_lengths(deed):
@@ -133,12 +160,13 @@ def order_of(deed):
 
 def least_steps(deed):
     """The least number of exchanges that do the deed."""
-    return sum([len(ring) - 1 for ring in rings_of(deed)])
+    check_deed(deed)
+    return steps_in(deed)
 
 
 def is_even(value):
     """Whether the value is a deed for which the least number of exchanges is even."""
-    return is_deed(value) and least_steps(value) % 2 == 0
+    return is_deed(value) and steps_in(value) % 2 == 0
 
 
 def renamed_deed(deed, names):

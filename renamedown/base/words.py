@@ -34,7 +34,7 @@ def is_number_of_places(value):
 
 def is_below(limit, value):
     """Whether the value is an integer of at least 0 below the limit, as places and indices are."""
-    return is_integer(value) and 0 <= value < limit
+    return isinstance(value, int) and not isinstance(value, bool) and 0 <= value < limit
 
 
 def check_number(value, least, most):
@@ -48,12 +48,20 @@ def check_places(places):
     check_number(places, 1, MAX_PLACES)
 
 
+def is_exchange_below(limit, value):
+    """Whether the value is an exchange of places below the limit."""
+    if not isinstance(value, tuple) or len(value) != 2:
+        return False
+    first, second = value
+    if isinstance(first, bool) or isinstance(second, bool):
+        return False
+    return isinstance(first, int) and isinstance(second, int) and 0 <= first < second < limit
+
+
 def is_exchange(places, value):
     """Whether the value is an exchange of so many places."""
     check_places(places)
-    if not isinstance(value, tuple) or len(value) != 2:
-        return False
-    return is_below(places, value[0]) and is_below(places, value[1]) and value[0] < value[1]
+    return is_exchange_below(places, value)
 
 
 def is_step(places, value):

@@ -2,24 +2,14 @@
 
 from math import comb
 
-from renamedown.base.deeds import back_of, behind, check_deed, deed_of_exchanges, least_steps, ring_lengths, rings_of
+from renamedown.base.deeds import check_deed, deed_of_exchanges, heads_in, ring_from, ring_lengths, rings_in
+from renamedown.base.deeds import rings_of, steps_in
 from renamedown.base.words import is_below
-from renamedown.count.least import is_least
+from renamedown.count.least import are_least
 from renamedown.errors import InvalidOperation, TooMany
-from renamedown.moves.plain import singles_of
+from renamedown.moves.plain import singles_in
 
 MAX_WITHIN = 5000
-
-
-def rest_of(inner, whole):
-    """The deed that makes the whole if it is done behind the inner one."""
-    return behind(back_of(inner), whole)
-
-
-def lies_in(inner, whole):
-    """Whether the least numbers of exchanges of the inner deed and of the rest make that of the whole."""
-    rest = rest_of(inner, whole)
-    return least_steps(inner) + least_steps(rest) == least_steps(whole)
 
 
 def _check_two(inner, whole):
@@ -30,91 +20,131 @@ def _check_two(inner, whole):
         raise InvalidOperation("the deeds have unlike numbers of places")
 
 
-def _own_rings(deed):
-    """The dict from the places to their rings."""
-    return {place: ring for ring in rings_of(deed) for place in ring}
+def rest_behind(inner, whole):
+    """The rest, where both are known to be deeds of as many places."""
+    rest = list(whole)
+    for place, target in zip(inner, whole):
+        rest[place] = target
+    return tuple(rest)
 
 
-def _distances(ring, places):
-    """How far the other ones of these places of the ring are, if one goes round from the first one."""
-    start = ring.index(places[0])
-    return [(ring.index(place) - start) % len(ring) for place in places[1:]]
+def lies_within(inner, whole):
+    """Whether the inner deed lies in the whole, where both are known to be deeds of as many places."""
+    return steps_in(inner) + steps_in(rest_behind(inner, whole)) == steps_in(whole)
 
 
-def _are_apart(inner, whole, places):
+def rest_of(inner, whole):
+    """The deed that makes the whole if it is done behind the inner one."""
+    _check_two(inner, whole)
+    return rest_behind(inner, whole)
+
+
+def lies_in(inner, whole):
+    """Whether the least numbers of exchanges of the inner deed and of the rest make that of the whole."""
+    _check_two(inner, whole)
+    return lies_within(inner, whole)
+
+
+def _are_apart(inner, whole, first, second):
     """Whether two places are in one ring of the inner deed, but not in one of the whole."""
-    first, second = places
-    return first < second and second in inner[first] and second not in whole[first]
+    return first < second and second in ring_from(inner, first) and second not in ring_from(whole, first)
 
 
 def _go_otherwise(inner, whole, places):
     """Whether three places of a ring of both come in another order in the inner deed than in the whole."""
-    if not all([rings[places[0]] == rings[place] for rings in (inner, whole) for place in places]):
+    ring, wider = ring_from(inner, places[0]), ring_from(whole, places[0])
+    if not all([place in ring and place in wider for place in places]):
         return False
-    ahead, later = _distances(inner[places[0]], places)
-    other_ahead, other_later = _distances(whole[places[0]], places)
-    return 0 < ahead < later and 0 < other_later < other_ahead
+    _, ahead, later = places
+    # Both rings begin with the first place, so equal places can not come in two orders.
+    return ring.index(ahead) < ring.index(later) and wider.index(later) < wider.index(ahead)
 
 
 def _do_cross(inner, whole, places):
     """Whether four places come so in a ring of the whole, and by turns in two rings of the inner deed."""
-    if not all([whole[places[0]] == whole[place] for place in places]):
+    wider = ring_from(whole, places[0])
+    if not all([place in wider for place in places]):
         return False
-    first, second, third = _distances(whole[places[0]], places)
-    one, other = inner[places[0]], inner[places[1]]
-    return 0 < first < second < third and one != other and inner[places[2]] == one and inner[places[3]] == other
+    first, second, third, fourth = places
+    if not wider.index(second) < wider.index(third) < wider.index(fourth):
+        return False
+    ring = ring_from(inner, first)
+    return third in ring and second not in ring and fourth in ring_from(inner, second)
+
+
+def _is_reason(inner, whole, value):
+    """Whether the value is a reason, where both are known to be deeds of as many places."""
+    if not isinstance(value, tuple) or not all([is_below(len(whole), place) for place in value[1:]]):
+        return False
+    places = value[1:]
+    if value[:1] == ("apart",):
+        return len(places) == 2 and _are_apart(inner, whole, places[0], places[1])
+    if value[:1] == ("round",):
+        return len(places) == 3 and _go_otherwise(inner, whole, places)
+    return value[:1] == ("cross",) and len(places) == 4 and _do_cross(inner, whole, places)
 
 
 def is_apartness(inner, whole, value):
     """Whether the value is a reason why the inner deed does not lie in the whole."""
     _check_two(inner, whole)
-    if not isinstance(value, tuple) or not all([is_below(len(whole), place) for place in value[1:]]):
-        return False
-    rings, wider, places = _own_rings(inner), _own_rings(whole), value[1:]
-    if value[:1] == ("apart",):
-        return len(places) == 2 and _are_apart(rings, wider, places)
-    if value[:1] == ("round",):
-        return len(places) == 3 and _go_otherwise(rings, wider, places)
-    return value[:1] == ("cross",) and len(places) == 4 and _do_cross(rings, wider, places)
+    return _is_reason(inner, whole, value)
 
 
-def _apart_reasons(inner, whole):
-    """Reasons with two places of a ring of the inner deed that are in two of the whole."""
-    wider = _own_rings(whole)
-    return [("apart", ring[0], place) for ring in rings_of(inner) for place in ring if place not in wider[ring[0]]]
+def _apart_reason(rings, heads):
+    """A reason with two places of a ring of the inner deed that have two heads in the whole, or None."""
+    for ring in rings:
+        for place in ring:
+            if heads[place] != heads[ring[0]]:
+                return ("apart", ring[0], place)
+    return None
 
 
-def _round_reasons(inner, whole):
-    """Reasons with three places, if each ring of the inner deed lies in one of the whole."""
-    wider = _own_rings(whole)
-    reasons = []
-    for ring in rings_of(inner):
-        far = _distances(wider[ring[0]], ring)
-        falls = [at for at in range(len(far) - 1) if far[at] > far[at + 1]]
-        reasons.extend([("round", ring[0], ring[at + 1], ring[at + 2]) for at in falls])
-    return reasons
+def _round_reason(rings, whole):
+    """A reason with three places, or None, if each ring of the inner deed lies in one of the whole."""
+    for ring in [part for part in rings if len(part) > 2]:
+        wider = ring_from(whole, ring[0])
+        far = [wider.index(place) for place in ring]
+        for at in range(1, len(far) - 1):
+            if far[at] > far[at + 1]:
+                return ("round", ring[0], ring[at], ring[at + 1])
+    return None
 
 
-def _cross_reasons(inner, whole):
-    """All reasons with four places."""
-    rings = _own_rings(inner)
-    reasons = []
-    for ring in rings_of(whole):
-        own = [rings[place][0] for place in ring]
-        reasons.extend([("cross", ring[first], ring[second], ring[third], ring[fourth])
-                        for third in range(len(ring)) for first in range(third) if own[first] == own[third]
-                        for second in range(first + 1, third) if own[second] != own[first]
-                        for fourth in range(third + 1, len(ring)) if own[fourth] == own[second]])
-    return reasons
+def _crossing(own):
+    """Indices of four labels, of which just the first and the third and the two others are equal, or None."""
+    # The labels that have been met and will be met again.
+    begun = []
+    for third, label in enumerate(own):
+        if label not in begun:
+            begun.append(label)
+        elif label != begun[-1]:
+            other = begun[begun.index(label) + 1]
+            return (own.index(label), own.index(other), third, own.index(other, third))
+        if label not in own[third + 1:]:
+            begun.pop()
+    return None
+
+
+def _cross_reason(inner, whole):
+    """A reason with four places, or None."""
+    heads = heads_in(inner)
+    for ring in rings_in(whole):
+        found = _crossing([heads[place] for place in ring])
+        if found is not None:
+            return ("cross",) + tuple([ring[at] for at in found])
+    return None
 
 
 def any_apartness(inner, whole):
     """A reason why the inner deed does not lie in the whole, or None."""
     _check_two(inner, whole)
-    reasons = _apart_reasons(inner, whole)
-    if reasons == []:
-        reasons = _round_reasons(inner, whole) + _cross_reasons(inner, whole)
-    return reasons[0] if reasons != [] else None
+    rings = rings_in(inner)
+    reason = _apart_reason(rings, heads_in(whole))
+    if reason is None:
+        reason = _round_reason(rings, whole)
+    if reason is None:
+        reason = _cross_reason(inner, whole)
+    return reason
 
 
 def between_paper(inner, whole):
@@ -122,7 +152,7 @@ def between_paper(inner, whole):
     reason = any_apartness(inner, whole)
     if reason is not None:
         return ("reason", reason)
-    return ("way", singles_of(inner) + singles_of(rest_of(inner, whole)))
+    return ("way", singles_in(inner) + singles_in(rest_behind(inner, whole)))
 
 
 def is_between_paper(inner, whole, value):
@@ -131,8 +161,8 @@ def is_between_paper(inner, whole, value):
     if not isinstance(value, tuple) or len(value) != 2:
         return False
     if value[0] == "way":
-        return is_least(whole, value[1]) and deed_of_exchanges(len(inner), value[1][:least_steps(inner)]) == inner
-    return value[0] == "reason" and is_apartness(inner, whole, value[1])
+        return are_least(whole, value[1]) and deed_of_exchanges(len(inner), value[1][:steps_in(inner)]) == inner
+    return value[0] == "reason" and _is_reason(inner, whole, value[1])
 
 
 def count_within(whole):

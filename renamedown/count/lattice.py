@@ -2,10 +2,10 @@
 
 from math import comb
 
-from renamedown.base.deeds import back_of, behind, check_deed, deed_of_exchanges, deed_of_rings, is_deed
-from renamedown.base.deeds import least_steps, ring_lengths, rings_of
+from renamedown.base.deeds import check_deed, deed_of_exchanges, heads_in, is_deed, least_steps, ring_lengths
+from renamedown.base.deeds import rings_in, rings_of
 from renamedown.base.words import check_number
-from renamedown.count.between import deeds_within, lies_in, rest_of
+from renamedown.count.between import deeds_within, lies_within, rest_behind, rest_of
 from renamedown.count.least import is_least
 from renamedown.errors import InvalidOperation, TooMany
 
@@ -18,18 +18,29 @@ def _check_within(whole, deeds):
     check_deed(whole)
     for deed in deeds:
         check_deed(deed)
-    if not all([lies_in(inner, whole) for inner in deeds]):
-        raise InvalidOperation("a deed does not lie in the whole")
+    for inner in deeds:
+        if len(inner) != len(whole) or not lies_within(inner, whole):
+            raise InvalidOperation("a deed does not lie in the whole")
 
 
 def _met(one, other):
     """The deed whose rings have the places that are in one ring of both deeds, which lie in one whole."""
-    heads = {place: ring[0] for ring in rings_of(other) for place in ring}
-    parts = {}
-    for ring in rings_of(one):
+    heads = heads_in(other)
+    deed = list(range(len(one)))
+    for ring in rings_in(one):
+        last = {}
         for place in ring:
-            parts.setdefault((ring[0], heads[place]), []).append(place)
-    return deed_of_rings(len(one), tuple([tuple(part) for part in parts.values()]))
+            head = heads[place]
+            if head in last:
+                # The place is put into the ring of the last one, behind it.
+                deed[place], deed[last[head]] = deed[last[head]], place
+            last[head] = place
+    return tuple(deed)
+
+
+def _rest_ahead(whole, inner):
+    """The deed that makes the whole if the inner one, known to be a deed, is done behind it."""
+    return tuple([inner.index(place) for place in whole])
 
 
 def meet(whole, one, other):
@@ -42,19 +53,19 @@ def join(whole, one, other):
     """The least deed in the whole in which both lie."""
     _check_within(whole, (one, other))
     # Mates exchange meets and joins, so this is the mate ahead of the meet of the mates behind.
-    return behind(whole, back_of(_met(rest_of(one, whole), rest_of(other, whole))))
+    return _rest_ahead(whole, _met(rest_behind(one, whole), rest_behind(other, whole)))
 
 
 def mate_behind(whole, inner):
     """The deed that makes the whole if it is done behind the inner one."""
     _check_within(whole, (inner,))
-    return rest_of(inner, whole)
+    return rest_behind(inner, whole)
 
 
 def mate_ahead(whole, inner):
     """The deed that makes the whole if the inner one is done behind it."""
     _check_within(whole, (inner,))
-    return behind(whole, back_of(inner))
+    return _rest_ahead(whole, inner)
 
 
 def is_rise(whole, value):
@@ -65,7 +76,7 @@ def is_rise(whole, value):
     if not all([is_deed(deed) and len(deed) == len(whole) for deed in value]):
         return False
     # What lies in a deed lies in all in which that one lies.
-    return all([lies_in(one, other) for one, other in zip(value, value[1:] + (whole,))])
+    return all([lies_within(one, other) for one, other in zip(value, value[1:] + (whole,))])
 
 
 def count_rises(whole, length):

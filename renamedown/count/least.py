@@ -3,8 +3,8 @@
 from math import factorial
 
 from renamedown.base.deeds import behind, check_deed, deed_of_exchanges, exchange_deed, least_steps, ring_lengths
-from renamedown.base.deeds import rings_of
-from renamedown.base.words import MAX_PLACES, is_below, is_exchange, is_owner
+from renamedown.base.deeds import rings_of, steps_in
+from renamedown.base.words import MAX_PLACES, is_below, is_exchange_below, is_owner
 from renamedown.errors import InvalidOperation, TooMany
 from renamedown.moves.plain import singles_of
 from renamedown.rows.rows import Row
@@ -18,15 +18,20 @@ def _are_exchanges(places, many, value):
     """Whether the value is a tuple of so many exchanges of so many places."""
     if not isinstance(value, tuple) or len(value) != many:
         return False
-    return all([is_exchange(places, exchange) for exchange in value])
+    return all([is_exchange_below(places, exchange) for exchange in value])
+
+
+def are_least(deed, value):
+    """Whether the value is a tuple of exchanges that is least for the deed, known to be one."""
+    if not _are_exchanges(len(deed), steps_in(deed), value):
+        return False
+    return deed_of_exchanges(len(deed), value) == deed
 
 
 def is_least(deed, value):
     """Whether the value is a tuple of exchanges that is least for the deed."""
     check_deed(deed)
-    if not _are_exchanges(len(deed), least_steps(deed), value):
-        return False
-    return deed_of_exchanges(len(deed), value) == deed
+    return are_least(deed, value)
 
 
 def count_least(deed):

@@ -47,9 +47,8 @@ def is_sign(value):
     return sum([len(letters) for letters in owners]) <= MAX_STEPS
 
 
-def singles_of(deed):
-    """Exchanges that do the deed, each one bringing the thing of a place to it."""
-    check_deed(deed)
+def singles_in(deed):
+    """The singles of a deed, known to be one."""
     left = list(deed)
     singles = []
     for place in range(len(deed)):
@@ -58,6 +57,12 @@ def singles_of(deed):
             singles.append((place, source))
             left[place], left[source] = place, left[place]
     return tuple(singles)
+
+
+def singles_of(deed):
+    """Exchanges that do the deed, each one bringing the thing of a place to it."""
+    check_deed(deed)
+    return singles_in(deed)
 
 
 def plain_exchanges(deed, group, many):
